@@ -1,0 +1,1 @@
+"""Peristyle: a columnar query engine with an optimiser."""
