@@ -159,7 +159,8 @@ def check_names(file):
         for name in bound_names(node):
             line = getattr(node, "lineno", 1)
             dunder = name.startswith("__") and name.endswith("__") and name[2:-2] in DUNDERS and node in methods
-            if name.startswith("__") and not dunder and name != "__slots__":
+            dunder = dunder or name in ("__slots__", "__all__", "__version__")
+            if name.startswith("__") and not dunder:
                 file.bad("L8", line, f"the name {name}")
             if not dunder and not re.fullmatch(r"_|_?[A-Za-z][A-Za-z0-9_]*", name):
                 file.bad("L12", line, f"the name {name}")
@@ -234,6 +235,8 @@ def check_strings(file):
                     file.bad("L27", token.start[0], f"the escape {escape!r}")
     for node in file.nodes:
         if isinstance(node, ast.Constant) and isinstance(node.value, str):
+            if PERCENT in node.value:
+                file.bad("L27", node.lineno, "a percent sign in a string")
             if node.value.endswith("._") or node.value.endswith(".__"):
                 file.bad("L27", node.lineno, "a string that ends in ._")
             if re.fullmatch(r"__.*__", node.value, re.S) and node.value != "__main__":
@@ -442,7 +445,7 @@ def told(box, at=0):
         "L20": ["def f(a):\n    return a.b is 'x'", "def f(a):\n    return a[0] is a[1]"],
         "L25": ["def f(x):\n    return x.ljust(3).as_integer_ratio()", "def f(x):\n    return x.popitem()"],
         "L26": ["def f(x):\n    x.items = 1", "def f(x):\n    x.bit_length = 1"],
-        "L27": ["X = 'a" + PERCENT + "'", "X = '\\x41'", "X = 'a._'", "def f(n):\n    return chr(n)", "X = 2 ** 65",
+        "L27": ["X = 'a" + PERCENT + "'", "X = '\\x41'", "def f(n):\n    return f'{n}" + PERCENT + "'", "X = 'a._'", "def f(n):\n    return chr(n)", "X = 2 ** 65",
                 "X = '__odd__'"],
     }
 
