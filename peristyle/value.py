@@ -28,6 +28,13 @@ def is_value(x, kind):
     return kind == "text" and isinstance(x, str) and _has_text_signs(x)
 
 
+def kind_of_value(x):
+    """The kind of a value that is not null."""
+    if isinstance(x, bool):
+        return "bool"
+    return "int" if isinstance(x, int) else "text"
+
+
 def _has_text_signs(text):
     return len(text) <= LONGEST and all([sign in SIGNS for sign in text])
 

@@ -17,6 +17,15 @@ FUNCTIONS = {
     "bound": {"bound": ["values"], "may_hold": ["name", "bound", "value"]},
     "schema": {"check_schema": ["schema"], "fits": ["schema", "row"]},
     "store": {"segmented": ["schema", "rows", "packing", "size"], "segment_rows": ["schema", "segment"]},
+    "words": {"words": ["text"]},
+    "grammar": {"parse": ["text"]},
+    "printer": {"printed": ["tree"]},
+    "binder": {"bind": ["tree", "schemas"]},
+    "plan": {"kinds": ["plan", "schemas"], "nodes": ["plan"], "used": ["expr"], "put_in": ["expr", "exprs"],
+             "moved": ["expr", "places"], "parts": ["cond"], "joined": ["conds"]},
+    "meaning": {"answer": ["plan", "tables"], "value_of": ["expr", "row", "outers", "tables"],
+                "bag": ["plan", "outers", "tables"]},
+    "facts": {"facts": ["plan", "schemas"], "safe": ["expr", "faults"]},
 }
 CLASSES = {
     "errors": {"PeristyleError": {}, "BadText": {"__init__": ["self", "at"]}, "BadName": {"__init__": ["self", "at"]},

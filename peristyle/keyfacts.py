@@ -1,0 +1,52 @@
+"""The keys of plans: columns in which no two of their rows are alike ([7.2])."""
+
+from peristyle.plan import parts
+
+
+def without_twins(group_keys):
+    """The keys without those that stand there twice."""
+    return list({told: True for told in group_keys})
+
+
+def select_keys(exprs, inner):
+    """The keys of a select over rows with some keys: those of which each column is an expression."""
+    found = []
+    for told in inner:
+        columns = [("col", index) for index in told]
+        if all([column in exprs for column in columns]):
+            found.append(tuple(sorted([exprs.index(column) for column in columns])))
+    return without_twins(found)
+
+
+def join_keys(kind, cond, left, right, many):
+    """The keys of a join; left and right are those of its inputs, many the number of columns of left."""
+    if kind in ("semi", "anti"):
+        return list(left)
+    if kind not in ("inner", "left"):
+        return []
+    moved_right = [tuple([index + many for index in told]) for told in right]
+    found = [told + other for told in left for other in moved_right]
+    pairs = equal_columns(cond, many)
+    # Each row of one side has then at most one partner.
+    if _has_key(left if kind == "inner" else [], [pair[0] for pair in pairs]):
+        found.extend(moved_right)
+    if _has_key(moved_right, [pair[1] for pair in pairs]):
+        found.extend(left)
+    return without_twins(found)
+
+
+def equal_columns(cond, many):
+    """The pairs of a left and a right column that the parts of a condition hold for equal."""
+    pairs = []
+    for part in parts(cond):
+        if part[0] == "op" and part[1] == "eq" and part[2][0][0] == "col" and part[2][1][0] == "col":
+            least, greatest = sorted([part[2][0][1], part[2][1][1]])
+            if least < many <= greatest:
+                pairs.append((least, greatest))
+    return pairs
+
+
+def _has_key(group_keys, columns):
+    if not columns:
+        return False
+    return any([all([index in columns for index in told]) for told in group_keys])
