@@ -78,16 +78,15 @@ class PlanCheck:
     def agg(self, agg, row, around):
         """The kind of an agg."""
         name, distinct, arg = _parts(agg, 3)
-        need(isinstance(distinct, bool) and not (distinct and name == "rows"))
+        need(_is_agg(name) and isinstance(distinct, bool) and not (distinct and name == "rows"))
         return self.called(name, arg, row, around)
 
     def called(self, name, arg, row, around):
         """The kind of an agg or the function of a window with an argument, perhaps None."""
-        need(isinstance(name, str))
         if name == "rows" or name in NUMBERINGS:
             need(arg is None)
             return "int"
-        need(name in AGGS or name in NEIGHBOURS)
+        need(_is_agg(name) or name in NEIGHBOURS)
         kind = self.expr(arg, row, around)
         need(AGGS.get(name, ANY) in (ANY, kind))
         return "int" if name == "count" else kind
@@ -99,7 +98,7 @@ class PlanCheck:
         self.exprs(partition, row, around)
         self.order(order, row, around)
         if frame is not None:
-            need(name == "rows" or name in AGGS)
+            need(_is_agg(name))
             first, second = _parts(frame, 2)
             need(_is_edge(first) and _is_edge(second))
         return kind
@@ -176,6 +175,10 @@ def _is_count(x):
 def _kind_at(row, index):
     need(is_whole(index) and 0 <= index < len(row))
     return row[index]
+
+
+def _is_agg(name):
+    return isinstance(name, str) and (name == "rows" or name in AGGS)
 
 
 def _is_edge(edge):
