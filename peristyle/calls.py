@@ -1,10 +1,9 @@
 """The calls of a select: which are right as a whole, and where they stand ([5.3], [5.5])."""
 
-from peristyle.operators import ANY
 from peristyle.treeparts import expr_parts
 
-# The kind that the argument must have.
-AGGS = {"count": ANY, "sum": "int", "avg": "int", "min": ANY, "max": ANY, "every": "bool", "some": "bool"}
+# The kind that the argument must have; "any" as for the operators.
+AGGS = {"count": "any", "sum": "int", "avg": "int", "min": "any", "max": "any", "every": "bool", "some": "bool"}
 NUMBERINGS = ("rank", "dense", "place")
 NEIGHBOURS = ("lag", "lead")
 EDGES = ("start", "before", "here", "after", "end")

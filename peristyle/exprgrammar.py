@@ -6,12 +6,7 @@ from peristyle.precedence import ATOM, BOTH, DENIAL, EXPR, PRODUCT, SIGN, SUM, T
 
 COMPARISONS = {"=": "eq", "<>": "ne", "<": "lt", "<=": "le", ">": "gt", ">=": "ge"}
 OPERATORS = {"OR": "or", "AND": "and", "+": "add", "-": "sub", "||": "cat", "*": "mul", "/": "div"}
-STRENGTHS = {
-    "OR": EXPR, "AND": BOTH,
-    "=": TEST, "<>": TEST, "<": TEST, "<=": TEST, ">": TEST, ">=": TEST,
-    "IS": TEST, "NOT": TEST, "BETWEEN": TEST, "LIKE": TEST, "IN": TEST,
-    "+": SUM, "-": SUM, "||": SUM, "*": PRODUCT, "/": PRODUCT,
-}
+TEST_WORDS = ("IS", "NOT", "BETWEEN", "LIKE", "IN")
 CONSTANTS = {"TRUE": True, "FALSE": False, "NULL": None}
 
 
@@ -24,12 +19,23 @@ def read_expr(cursor, level):
     """Read an expression that binds at least as tightly as the level."""
     tree, bound_by = _read_first(cursor, level)
     while True:
-        strength = STRENGTHS.get(cursor.what(), 0)
+        strength = _strength(cursor.what())
         # What a test or NOT made is no sum, so only AND and OR may follow it.
-        if strength < level or strength == 0 or (strength >= TEST >= bound_by):
+        if strength < level or strength >= TEST >= bound_by:
             return tree
         tree = _read_rest(cursor, tree, strength)
         bound_by = strength
+
+
+def _strength(what):
+    """How tightly what stands behind an expression binds it, if it is an operator; otherwise 0."""
+    if what in COMPARISONS or what in TEST_WORDS:
+        return TEST
+    if what in ("OR", "AND"):
+        return EXPR if what == "OR" else BOTH
+    if what in OPERATORS:
+        return PRODUCT if what in ("*", "/") else SUM
+    return 0
 
 
 def read_exprs(cursor):

@@ -7,21 +7,9 @@ IN and BETWEEN wrote twice is not, they stand wherever they can.
 
 from peristyle.precedence import ATOM, BOTH, DENIAL, EXPR, PRODUCT, SIGN, SUM, TEST
 
-# The sign of an operator, how tightly it binds, and how tightly its two sides must.
 SIGNS = {
-    "or": ("OR", EXPR, EXPR, BOTH),
-    "and": ("AND", BOTH, BOTH, DENIAL),
-    "eq": ("=", TEST, SUM, SUM),
-    "ne": ("<>", TEST, SUM, SUM),
-    "lt": ("<", TEST, SUM, SUM),
-    "le": ("<=", TEST, SUM, SUM),
-    "gt": (">", TEST, SUM, SUM),
-    "ge": (">=", TEST, SUM, SUM),
-    "add": ("+", SUM, SUM, PRODUCT),
-    "sub": ("-", SUM, SUM, PRODUCT),
-    "cat": ("||", SUM, SUM, PRODUCT),
-    "mul": ("*", PRODUCT, PRODUCT, SIGN),
-    "div": ("/", PRODUCT, PRODUCT, SIGN),
+    "or": "OR", "and": "AND", "eq": "=", "ne": "<>", "lt": "<", "le": "<=", "gt": ">", "ge": ">=",
+    "add": "+", "sub": "-", "cat": "||", "mul": "*", "div": "/",
 }
 EDGES = {
     "start": "UNBOUNDED PRECEDING", "before": "PRECEDING", "here": "CURRENT ROW",
@@ -63,7 +51,15 @@ def _binding(tree):
         return SIGN
     if _is_test(tree):
         return TEST
-    return SIGNS[tree[1]][1] if tree[1] in SIGNS else ATOM
+    return _sign_binding(tree[1]) if tree[1] in SIGNS else ATOM
+
+
+def _sign_binding(name):
+    if name in ("or", "and"):
+        return EXPR if name == "or" else BOTH
+    if name in ("mul", "div"):
+        return PRODUCT
+    return SUM if name in ("add", "sub", "cat") else TEST
 
 
 def _is_op(tree, name):
@@ -156,8 +152,10 @@ def _operator_text(tree, query_text):
     if _is_test(tree) and not _needs_no_list(tree):
         return _test_text(tree, query_text)
     if name in SIGNS:
-        sign, _, left, right = SIGNS[name]
-        return f"{expr_text(args[0], left, query_text)} {sign} {expr_text(args[1], right, query_text)}"
+        level = _sign_binding(name)
+        # Chains lean to the left, but there are none of comparisons.
+        left, right = (SUM, SUM) if level == TEST else (level, level + 1)
+        return f"{expr_text(args[0], left, query_text)} {SIGNS[name]} {expr_text(args[1], right, query_text)}"
     return f"{name}({exprs_text(args, query_text)})"
 
 

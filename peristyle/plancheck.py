@@ -32,7 +32,7 @@ class PlanCheck:
 
     def plan(self, plan, around):
         """The kinds of the columns of a plan."""
-        word = _word(plan, PLAN_LENGTHS)
+        word = _plan_word(plan)
         if word == "scan":
             need(isinstance(plan[1], str) and plan[1] in self.tables)
             return tuple([kind for _, kind, _ in self.tables[plan[1]][1]])
@@ -118,7 +118,7 @@ class PlanCheck:
 
     def expr(self, expr, row, around):
         """The kind of an expression for a row of these kinds."""
-        word = _word(expr, EXPR_LENGTHS)
+        word = _expr_word(expr)
         if word == "col":
             return _kind_at(row, expr[1])
         if word == "outer":
@@ -155,12 +155,24 @@ class PlanCheck:
         return kind
 
 
-def _word(node, lengths):
-    """The word of a plan or an expression that has as many parts as it must."""
-    # A text first: nothing is said of how deep other things are that would be looked up.
+def _word(node):
+    # Nothing but a text is looked up: other things may be nested too deep for it.
     need(isinstance(node, tuple) and len(node) > 0 and isinstance(node[0], str))
-    need(lengths.get(node[0], 0) == len(node))
     return node[0]
+
+
+def _plan_word(plan):
+    """The word of a plan that has as many parts as it must."""
+    word = _word(plan)
+    need(PLAN_LENGTHS.get(word, 0) == len(plan))
+    return word
+
+
+def _expr_word(expr):
+    """The word of an expression that has as many parts as it must."""
+    word = _word(expr)
+    need(EXPR_LENGTHS.get(word, 0) == len(expr))
+    return word
 
 
 def _parts(thing, many):

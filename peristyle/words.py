@@ -1,14 +1,14 @@
 """The words, numbers, texts and marks of a query ([4.1], [4.2])."""
 
 from peristyle.errors import BadText
-from peristyle.names import LETTERS, LONGEST_NAME, RESERVED, is_name
+from peristyle.names import LONGEST_NAME, RESERVED, is_name
 from peristyle.value import LONGEST, SIGNS
 
 GAPS = " \n"
 FIGURES = "0123456789"
 MOST_FIGURES = 18
-WORD_STARTS = LETTERS + "ABCDEFGHIJKLMNOPQRSTUVWXYZ_"
-WORD_SIGNS = WORD_STARTS + FIGURES
+WORD_STARTS = "ABCDEFGHIJKLMNOPQRSTUVWXYZabcdefghijklmnopqrstuvwxyz_"
+WORD_SIGNS = "ABCDEFGHIJKLMNOPQRSTUVWXYZabcdefghijklmnopqrstuvwxyz_0123456789"
 QUOTE = "'"
 # A mark stands behind the longer ones that begin with it.
 MARKS = ("<>", "<=", ">=", "||", "(", ")", ",", ".", "*", "+", "-", "/", "=", "<", ">")

@@ -322,7 +322,38 @@ def check_bindings(file):
                             file.bad("L15", part.lineno, f"{name} has the name of a class or an import")
 
 
-CHECKS = (check_characters, check_sizes, check_imports, check_module_level, check_names, check_attributes, check_builtins,
+def module_tables(tree):
+    """The names of lists and dicts at module level, the imported ones too."""
+    found = set()
+    for node in tree.body:
+        if isinstance(node, ast.Assign) and isinstance(node.value, (ast.List, ast.Dict)):
+            found.add(node.targets[0].id)
+        if isinstance(node, ast.ImportFrom) and (node.module or "").startswith("peristyle."):
+            path = PACKAGE.parent / (node.module.replace(".", "/") + ".py")
+            told = module_tables(ast.parse(path.read_text())) if path.exists() else set()
+            found |= told & {alias.name for alias in node.names}
+    return found
+
+
+def check_tables(file):
+    """L15: a list or dict at module level is only read on the spot, or copied."""
+    tables = module_tables(file.tree)
+    fine = set()
+    for node in file.nodes:
+        if isinstance(node, (ast.Subscript, ast.Attribute)):
+            fine.add(id(node.value))
+        if isinstance(node, ast.Compare):
+            fine.update(id(side) for side in [node.left] + node.comparators)
+        if isinstance(node, (ast.For, ast.comprehension)):
+            fine.add(id(node.iter))
+        if isinstance(node, ast.Call) and isinstance(node.func, ast.Name) and node.func.id in BUILTINS:
+            fine.update(id(arg) for arg in node.args)
+    for node in file.nodes:
+        if isinstance(node, ast.Name) and isinstance(node.ctx, ast.Load) and node.id in tables and id(node) not in fine:
+            file.bad("L15", node.lineno, f"{node.id} is passed on")
+
+
+CHECKS = (check_tables, check_characters, check_sizes, check_imports, check_module_level, check_names, check_attributes, check_builtins,
           check_words, check_strings, check_operations, check_statements, check_bindings)
 
 
@@ -437,7 +468,9 @@ def told(box, at=0):
         "L12": ["def f():\n    _ = 1\n    return _", "_1 = 2", "class _A:\n    pass", "_law_x = 1"],
         "L14": ["# caf" + chr(233), "X = 1\t# x", "X = '" + chr(0x20ac) + "'"],
         "L15": ["X = [[1]]", "X = 1\nX = 2", "def f(id):\n    return id", "def f():\n    sum = 1\n    return sum",
-                "class A:\n    pass\n\n\ndef f(A):\n    return A", "def f():\n    class B:\n        pass"],
+                "class A:\n    pass\n\n\ndef f(A):\n    return A", "X = [1]\n\n\ndef f():\n    return X",
+                "X = {1: 2}\n\n\ndef f():\n    return f(X)", "X = {1: 2}\n\n\ndef f():\n    y = X\n    return y",
+                "def f():\n    class B:\n        pass"],
         "L16": ["import peristyle", "from peristyle.nothing import x"],
         "L17": ["X = 'a'\nY = 'namedtuple'", "def f(x):\n    return x.mro", "def f(x):\n    x.f_back = 1",
                 "def compile(x):\n    return x", "def f(vars):\n    return vars", "from peristyle.value import Enum"],
