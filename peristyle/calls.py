@@ -14,11 +14,6 @@ def is_agg(tree):
     return tree[0] == "call" and tree[5] is None and tree[1] in AGGS
 
 
-def is_window(tree):
-    """Tell whether an expression is a call with OVER."""
-    return tree[0] == "call" and tree[5] is not None
-
-
 def is_wrong(call):
     """Tell whether a call is refused as a whole, wherever it stands."""
     _, name, distinct, args, star, window, _ = call
@@ -52,7 +47,7 @@ def agg_calls(tree, enter_windows):
     """
     if is_agg(tree):
         return [tree]
-    if tree[0] == "call" and (not is_window(tree) or not enter_windows or is_wrong(tree)):
+    if tree[0] == "call" and (not enter_windows or is_wrong(tree)):
         return []
     below = enter_windows and tree[0] != "call"
     return [call for part in expr_parts(tree) for call in agg_calls(part, below)]
@@ -61,5 +56,5 @@ def agg_calls(tree, enter_windows):
 def window_calls(tree):
     """The outermost calls with OVER in an expression, from the left."""
     if tree[0] == "call":
-        return [tree] if is_window(tree) else []
+        return [tree] if tree[5] is not None else []
     return [call for part in expr_parts(tree) for call in window_calls(part)]

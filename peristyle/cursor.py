@@ -40,8 +40,12 @@ class Cursor:
         """Tell whether the next things are these, one after the other."""
         return [thing[0] for thing in self.things[self.now:self.now + len(whats)]] == list(whats)
 
+    def sees_query(self):
+        """Tell whether the next thing is a word that begins a query."""
+        return self.what() in QUERY_WORDS
+
     def sees_query_behind(self):
-        """Tell whether a query is meant behind the next thing, a bracket."""
+        """Tell whether the thing behind the next one is such a word."""
         return self.things[self.now + 1][0] in QUERY_WORDS
 
     def skip(self):

@@ -129,9 +129,8 @@ def _read_between(cursor, left):
 
 
 def _read_in(cursor, left):
-    is_query = cursor.sees("(") and cursor.sees_query_behind()
     cursor.need("(")
-    if is_query:
+    if cursor.sees_query():
         read_query = cursor.read_query
         tree = ("in", left, read_query(cursor), left[-1])
     else:

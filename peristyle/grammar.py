@@ -1,6 +1,6 @@
 """Reading a query: from a text to its tree ([4.3] to [4.6])."""
 
-from peristyle.cursor import QUERY_WORDS, Cursor
+from peristyle.cursor import Cursor
 from peristyle.errors import BadText, TooMuch
 from peristyle.exprgrammar import read_bracketed_query, read_expr, read_exprs, read_items
 from peristyle.precedence import EXPR
@@ -15,7 +15,7 @@ def parse(text):
         raise TooMuch()
     cursor = Cursor(text, _read_query)
     tree = _read_query(cursor)
-    cursor.need("end")
+    # Only behind all things is the place that of the end.
     if cursor.place() < len(text):
         raise BadText(cursor.place())
     if is_too_large(tree):
@@ -81,12 +81,7 @@ def _read_core(cursor):
         return _read_select(cursor, place)
     if cursor.take("VALUES"):
         return ("values", _read_rows(cursor), place)
-    cursor.need("(")
-    if cursor.what() not in QUERY_WORDS and not cursor.sees("("):
-        raise BadText(cursor.place())
-    tree = _read_query(cursor)
-    cursor.need(")")
-    return tree
+    return read_bracketed_query(cursor)
 
 
 def _read_rows(cursor):

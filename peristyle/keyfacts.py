@@ -47,6 +47,4 @@ def equal_columns(cond, many):
 
 
 def _has_key(group_keys, columns):
-    if not columns:
-        return False
     return any([all([index in columns for index in told]) for told in group_keys])

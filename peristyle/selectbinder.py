@@ -1,6 +1,6 @@
 """Binding a select ([5.3], [5.4])."""
 
-from peristyle.calls import AGGS, NUMBERINGS, agg_calls, is_window, is_wrong, window_calls
+from peristyle.calls import AGGS, NUMBERINGS, agg_calls, is_wrong, window_calls
 from peristyle.errors import BadKind, BadName
 from peristyle.exprbinder import bound_expr
 from peristyle.operators import ANY
@@ -10,7 +10,7 @@ from peristyle.sourcebinder import From
 
 
 class Select:
-    """A select while it is bound.
+    """A select while it is bound; order is an ORDER BY that is bound like its outs, or empty.
 
     Until it is settled, an expression behind the grouping has the columns of the FROM, and ("agg", i) and
     ("fun", i) for the calls: so it can be compared with the keys, as nothing that has a call in it is one.
@@ -18,8 +18,7 @@ class Select:
 
     def __init__(self, tree, order, setting):
         _, self.distinct, self.out_trees, sources, self.where, self.groups, self.having, _ = tree
-        # Calls in an ORDER BY that sees the names of outs alone are none of this select.
-        self.order_trees = [] if self.distinct else [item[0] for item in order]
+        self.order_trees = [item[0] for item in order]
         self.setting = setting
         self.plan, self.sources = From(setting).bound(sources)
         self.scope = Scope(self.sources)

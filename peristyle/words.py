@@ -1,7 +1,7 @@
 """The words, numbers, texts and marks of a query ([4.1], [4.2])."""
 
 from peristyle.errors import BadText
-from peristyle.names import LONGEST_NAME, RESERVED, is_name
+from peristyle.names import RESERVED, is_name
 from peristyle.value import LONGEST, SIGNS
 
 GAPS = " \n"
@@ -52,7 +52,7 @@ def _thing(text, at):
 def _word(text, at):
     end = _run_end(text, at, WORD_SIGNS)
     word = text[at:end]
-    if len(word) > LONGEST_NAME or not (is_reserved(word) or is_name(word)):
+    if not is_reserved(word) and not is_name(word):
         raise BadText(at)
     return "word", word, end
 

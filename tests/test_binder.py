@@ -101,6 +101,11 @@ class NamesTest(BinderTest):
         self.check("SELECT 1 FROM t JOIN u ON EXISTS (SELECT 1 WHERE c AND d = 1)", select([num(1)], join(
             SCAN_T, SCAN_U, ("exists", select([num(1)], where(op("and", outer(1, 2), op("eq", outer(1, 4), num(1))), ONE_ROW))))))
 
+    def test_cross_joins(self):
+        self.check("SELECT 1 FROM t CROSS JOIN u", select([num(1)], join(SCAN_T, SCAN_U)))
+        self.check("SELECT x FROM t CROSS JOIN u JOIN w ON d = k", select(cols(6), join(join(SCAN_T, SCAN_U), SCAN_W, op(
+            "eq", col(4), col(5)))))
+
     def test_two_sources_of_one_name(self):
         self.check_bad("SELECT 1 FROM t, t", "BadName", "t")
         self.check_bad("SELECT 1 FROM t, u t", "BadName", "u t")
@@ -156,6 +161,13 @@ class WithTest(BinderTest):
         middle = select([("scalar", select(cols(0), cte))], SCAN_W)
         self.check("SELECT (WITH x AS (SELECT (SELECT b || words(d)) AS z FROM u) SELECT (SELECT z FROM x) FROM w) FROM t",
                    select([("scalar", middle)], SCAN_T))
+
+    def test_columns_of_the_query_itself_stay(self):
+        cte = select([col(1)], where(op("eq", col(0), num(1)), SCAN_U))
+        query = "WITH x AS (SELECT d FROM u WHERE a = 1) SELECT {} FROM t"
+        self.check(query.format("(SELECT d FROM x)"), select([("scalar", select(cols(0), cte))], SCAN_T))
+        self.check(query.format("(SELECT (SELECT d FROM x) FROM w)"), select([("scalar", select([("scalar", select(
+            cols(0), cte))], SCAN_W))], SCAN_T))
 
     def test_names_are_those_where_it_is_written(self):
         # The select in which x is used has a column b, too; x does not see it.
@@ -245,6 +257,24 @@ class GroupsTest(BinderTest):
                          ("int", "int", "int", "int", "text", "bool", "bool", "bool"))
         self.check("SELECT count(DISTINCT b), count(b) FROM t", select(cols(0, 1), group(
             [], [("count", True, col(1)), ("count", False, col(1))], SCAN_T)))
+
+    def test_kinds_of_calls(self):
+        for call, kind in (("count(*)", "int"), ("count(b)", "int"), ("sum(a)", "int"), ("avg(a)", "int"), ("min(b)", "text"), ("max(c)", "bool"),
+                           ("max(a)", "int"), ("every(c)", "bool"), ("some(c)", "bool"), ("count(c)", "int"), ("rank()", "int"),
+                           ("dense()", "int"), ("place()", "int"), ("lag(b)", "text"), ("lead(c)", "bool"), ("lag(a)", "int")):
+            for over in (" OVER ()", "")[:1 if call[:3] in ("ran", "den", "pla", "lag", "lea") else 2]:
+                for written, wanted in (("{} + 1", "int"), ("{} || 'x'", "text"), ("NOT {}", "bool")):
+                    query = f"SELECT {written.format(call + over)} FROM t"
+                    if kind == wanted:
+                        self.assertEqual(kinds(plan_of(query), SCHEMAS), (kind,))
+                    else:
+                        self.check_bad(query, "BadKind", query.index(call))
+
+    def test_calls_beside_nested_queries(self):
+        self.check("SELECT sum(a) IN (SELECT 1) FROM t", select([("in", col(0), select([num(1)], ONE_ROW))], group(
+            [], [("sum", False, col(0))], SCAN_T)))
+        self.check("SELECT rank() OVER () IN (SELECT 1) FROM t", select([("in", col(3), select([num(1)], ONE_ROW))], (
+            "window", (("rank", None, (), (), None),), SCAN_T)))
 
     def test_calls_that_are_alike(self):
         self.check("SELECT sum(a), sum(t.a) + 1, sum((a)), count(*), count(*) FROM t", select(
@@ -337,6 +367,11 @@ class WindowsTest(BinderTest):
         self.check("SELECT sum(sum(a)) OVER (PARTITION BY max(b) ORDER BY c), c FROM t GROUP BY c HAVING count(*) > 1", select(cols(4, 0), (
             "window", (("sum", col(1), (col(2),), (asc(0),), None),), where(op("gt", col(3), num(1)), group(
                 cols(2), [("sum", False, col(0)), ("max", False, col(1)), ROWS], SCAN_T)))))
+        self.check("SELECT b FROM t GROUP BY b ORDER BY 1 + max(sum(a)) OVER ()", select(cols(0), top([asc(1)], None, 0, select(
+            [col(0), op("add", num(1), col(2))], ("window", (("max", col(1), (), (), None),), group(
+                cols(1), [("sum", False, col(0))], SCAN_T))))))
+        self.check("SELECT 1 FROM t ORDER BY max(sum(a)) OVER ()", select(cols(0), top([asc(1)], None, 0, select([num(1), col(1)], (
+            "window", (("max", col(0), (), (), None),), group([], [("sum", False, col(0))], SCAN_T))))))
         self.check_bad("SELECT sum(a) OVER () FROM t GROUP BY b", "BadName", "a) OVER")
         self.check_bad("SELECT rank() OVER (ORDER BY a) FROM t GROUP BY b", "BadName", "a) FROM")
 
@@ -397,6 +432,11 @@ class SetsTest(BinderTest):
             [text(None), op("add", num(1), num(1))], ONE_ROW), select([text("a"), num(2)], ONE_ROW)), select(
                 [text(None), op("neg", num(3))], ONE_ROW)))
         self.check("VALUES (--1)", select([op("neg", op("neg", num(1)))], ONE_ROW))
+        self.check("VALUES (-NULL)", select([op("neg", num(None))], ONE_ROW))
+        self.check("VALUES (-(1 + 1))", select([op("neg", op("add", num(1), num(1)))], ONE_ROW))
+        self.check("VALUES (-(SELECT 1))", select([op("neg", ("scalar", select([num(1)], ONE_ROW)))], ONE_ROW))
+        self.check("VALUES (NOT TRUE)", select([op("not", TRUE)], ONE_ROW))
+        self.check("VALUES (-(1), 'a', FALSE)", ("rows", ("int", "text", "bool"), ((-1, "a", False),)))
         self.check("SELECT c1 FROM (VALUES (1)) x", select(cols(0), ("rows", ("int",), ((1,),))), "c1")
         self.check("SELECT 1 FROM t WHERE a IN (VALUES (1), (a))", select([num(1)], where(("in", col(0), ("union", select(
             [num(1)], ONE_ROW), select([outer(1, 0)], ONE_ROW))), SCAN_T)))

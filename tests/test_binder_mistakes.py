@@ -205,6 +205,7 @@ class CallsTest(MistakesTest):
         self.check_bad("SELECT rank() OVER (PARTITION BY a, 1 + place() OVER ()) FROM t", "BadKind", "place")
         self.check_bad("SELECT sum(sum(sum(a))) OVER () FROM t", "BadKind", "sum(a")
         self.check_bad("SELECT rank() OVER (ORDER BY sum(sum('x')) OVER ()) FROM t", "BadKind", "sum(sum")
+        self.check_bad("SELECT 1 FROM t HAVING 1 < sum(sum('x')) OVER ()", "BadKind", "sum(sum")
         self.assertEqual(len(bound("SELECT sum(sum(a)) OVER (PARTITION BY count(*) ORDER BY min(b)) FROM t")), 2)
         self.assertEqual(len(bound("SELECT sum((SELECT sum(d) FROM u)) FROM t")), 2)
         self.assertEqual(len(bound("SELECT 1 FROM t WHERE 1 = (SELECT sum(d) FROM u)")), 2)

@@ -185,6 +185,7 @@ class FaultsTest(unittest.TestCase):
         cond = op("eq", op("div", num(1), col(0)), num(1))
         good = op("eq", col(0), num(1))
         self.assertIs(fails(SCAN_T), False)
+        self.assertIs(fails(ONE_ROW), False)
         self.assertIs(fails(QUOTIENTS), False)
         for plan, wanted in [
                 (where(good, SCAN_U), False), (where(cond, SCAN_U), True), (where(good, QUOTIENTS), True), (where(op("eq", col(1), num(1)), QUOTIENTS), False),

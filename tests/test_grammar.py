@@ -1,6 +1,7 @@
 """The grammar and the tree of a query ([4.3], [4.5])."""
 
 import random
+import re
 import unittest
 
 from peristyle.errors import BadText
@@ -328,6 +329,18 @@ class QueriesTest(unittest.TestCase):
         self.assertEqual(expr_tree("a IN ((SELECT 1), 2)")[1], "or")
 
 
+class LettersTest(unittest.TestCase):
+    def test_reserved_words_in_all_letters(self):
+        for text in ["SELECT DISTINCT a.* FROM t AS x LEFT JOIN u ON NOT a IS NOT TRUE WHERE a IN (SELECT 1) OR b NOT LIKE c",
+                     "SELECT 1 UNION ALL SELECT 2 EXCEPT VALUES (1) INTERSECT ALL (SELECT 3) ORDER BY a DESC NULLS LAST, b NULLS FIRST",
+                     "SELECT f() OVER (PARTITION BY a ORDER BY b ASC ROWS BETWEEN UNBOUNDED PRECEDING AND CURRENT ROW)",
+                     "SELECT f() OVER (ROWS BETWEEN 1 PRECEDING AND UNBOUNDED FOLLOWING), (SELECT 1), (VALUES (1)), (WITH x AS (SELECT 1) "
+                     "SELECT 2)", "SELECT CASE WHEN a BETWEEN 1 AND 2 THEN NULL ELSE FALSE END FROM t CROSS JOIN u, v INNER JOIN w ON TRUE",
+                     "SELECT EXISTS (SELECT 1) GROUP BY a HAVING b LIMIT 1 OFFSET 2", "SELECT a FROM t RIGHT JOIN u ON a FULL JOIN v ON b"]:
+            self.assertEqual(parse(text.lower()), parse(text))
+            self.assertEqual(parse(re.sub("[A-Z]+", lambda word: word[0].title(), text)), parse(text))
+
+
 class MistakesTest(unittest.TestCase):
     """The place of the first mistake ([4.6])."""
 
@@ -365,7 +378,8 @@ class MistakesTest(unittest.TestCase):
         for text, at in [("SELECT 1 1", 9), ("SELECT 1 a", 9), ("SELECT , 1", 7), ("SELECT 1,", 9), ("SELECT a b", 9),
                          ("SELECT * , a", 9), ("SELECT a, *", 10), ("SELECT (t.*)", 10), ("SELECT 1 + t.*", 13),
                          ("SELECT t.* AS b", 11), ("SELECT t.*+1", 10), ("SELECT a.1", 9), ("SELECT a.SELECT", 9),
-                         ("SELECT f(*, a)", 10), ("SELECT f(DISTINCT)", 17), ("SELECT f(DISTINCT *)", 18),
+                         ("SELECT f(*, a)", 10), ("SELECT f(* a)", 11), ("SELECT f(*)(*)", 11),
+                         ("SELECT f(DISTINCT)", 17), ("SELECT f(DISTINCT *)", 18),
                          ("SELECT f(a,)", 11), ("SELECT f OVER ()", 9), ("SELECT (f()) OVER ()", 13),
                          ("SELECT a = b = c", 13), ("SELECT a < b < c", 13), ("SELECT a IS NULL IS NULL", 17),
                          ("SELECT a IS NULL + 1", 17), ("SELECT a = NOT b", 11), ("SELECT a + NOT b", 11),

@@ -107,6 +107,25 @@ class NestedThingsTest(unittest.TestCase):
         self.check_good("SELECT f(1) OVER (ORDER BY " + "(" * 10 + "a" + ")" * 10 + ")")
         self.check_bad("SELECT f(1) OVER (ORDER BY " + "(" * 11 + "a" + ")" * 11 + ")", 27 + 10)
 
+    def test_what_has_ended_is_nested_no_more(self):
+        """Neither more nor less may be nested behind it."""
+        for name, (begin, end, _) in COUNTED.items():
+            for before in (begin + "1" + end, begin + begin + "1" + end + end):
+                for joined in (" OR ", ", "):
+                    head = "SELECT " + (before + joined) * 13
+                    with self.subTest(head):
+                        self.check_good(head + "(" * 11 + "1" + ")" * 11)
+                        self.check_bad(head + "(" * 12 + "1" + ")" * 12, len(head) + 11)
+        head = "SELECT " + "NOT 1 AND " * 13
+        self.check_good(head + "(" * 11 + "1" + ")" * 11)
+        self.check_bad(head + "(" * 12 + "1" + ")" * 12, len(head) + 11)
+        head = "(SELECT 1) UNION " * 13 + "SELECT "
+        self.check_good(head + "(" * 11 + "1" + ")" * 11)
+        self.check_bad(head + "(" * 12 + "1" + ")" * 12, len(head) + 11)
+        head = "WITH " + ", ".join(["x AS (SELECT 1)"] * 13) + " SELECT "
+        self.check_good(head + "(" * 11 + "1" + ")" * 11)
+        self.check_bad(head + "(" * 12 + "1" + ")" * 12, len(head) + 11)
+
     def test_what_stands_side_by_side(self):
         deep = "(" * 11 + "1" + ")" * 11
         self.check_good(f"SELECT {deep} + {deep}, {deep} FROM t WHERE {deep} GROUP BY {deep} ORDER BY {deep}")
@@ -147,7 +166,8 @@ class TreesTest(unittest.TestCase):
                 ("SELECT CASE WHEN 1 THEN 1", "+1", " END"), ("SELECT CASE WHEN 1", "+1", " THEN 1 END"),
                 ("SELECT CASE WHEN 1 THEN 1 ELSE 1", "+1", " END"), ("SELECT 1 WHERE a", " AND b", ""),
                 ("SELECT f(1", "*2", ")"), ("WITH x AS (SELECT 1", "+1", ") SELECT 1"), ("SELECT 1 ORDER BY a", " OR b", ""),
-                ("SELECT 1 FROM t JOIN u ON a", "-1", ""), ("SELECT 1 GROUP BY 1", "+1", ""), ("SELECT 1 HAVING 1", "+1", "")]:
+                ("SELECT 1 FROM t JOIN u ON a", "-1", ""), ("SELECT 1 FROM t JOIN (SELECT 1", "+1", ") x ON a"),
+                ("SELECT 1 IN (SELECT 1 WHERE 1", "+1", ")"), ("SELECT 1", "+1", " IN (SELECT 1)"), ("SELECT 1 GROUP BY 1", "+1", ""), ("SELECT 1 HAVING 1", "+1", "")]:
             taken = [many for many in range(62) if outcome(parse, head + piece * many + tail) != "TooMuch"]
             self.assertEqual(taken, list(range(len(taken))), head)
             self.assertEqual(levels(parse(head + piece * taken[-1] + tail)), 60, head)
@@ -162,6 +182,8 @@ class TreesTest(unittest.TestCase):
         self.assertEqual(counted(parse(text)), 5000)
         self.assertEqual(outcome(parse, text + ", 1"), "TooMuch")
         self.assertEqual(outcome(parse, text + ", 1 1"), ("BadText", len(text) + 4))
+        # What stands for all columns, and the names of tables and outs, are none.
+        self.assertEqual(outcome(parse, text.replace("SELECT ", "SELECT t.*, ") + " AS a")[0], "query")
 
     def test_very_many_tuples(self):
         text = "SELECT " + "(" * 11 + "a" + " IN (1,2,3,4,5,6,7,8,9))" * 11
@@ -197,6 +219,11 @@ class ListsTest(unittest.TestCase):
     def test_a_mistake_further_left_goes_first(self):
         self.assertEqual(outcome(parse, "SELECT 1 1, " + self.text(61)[7:]), ("BadText", 9))
         self.assertEqual(outcome(parse, "SELECT ; " + self.text(61)[7:]), ("BadText", 7))
+
+    def test_lists_that_have_ended_are_nested_no_more(self):
+        head = "SELECT a IN (1) OR a IN (2, 3), "
+        self.assertEqual(outcome(parse, head + self.text(60)[7:] + " )"), ("BadText", len(head + self.text(60)[7:]) + 1))
+        self.assertEqual(outcome(parse, head + self.text(61)[7:] + " )"), "TooMuch")
 
     def test_lists_side_by_side(self):
         text = "SELECT " + ", ".join(["a IN (1)"] * 61)

@@ -93,6 +93,7 @@ class KindsTest(unittest.TestCase):
         self.check(in_t(("const", "bool", False)), "bool")
         self.check(in_t(op("part", col(1), num(1), col(0))), "text")
         self.check(in_t(("case", ((col(2), num(1)), (TRUE, col(0))), num(None))), "int")
+        self.check(in_t(("case", ((col(2), text("x")),), col(1))), "text")
         self.check(in_t(("scalar", select([col(1)], SCAN_U))), "int")
         self.check(in_t(("exists", SCAN_U)), "bool")
         self.check(in_t(("exists", select([], SCAN_U))), "bool")
@@ -167,7 +168,7 @@ class NotRightTest(unittest.TestCase):
 
         here = (("here", 0), ("here", 0))
         self.assertEqual(told(fun("sum", col(0), (), (), here))[3:], ("int",))
-        self.check_bad(fun("sum", col(1), (), (), None), fun("sum", None, (), (), None), fun("rank", col(0), (), (), None),
+        self.check_bad(fun("nothing", col(0), (), (), None), fun("sum", col(1), (), (), None), fun("sum", None, (), (), None), fun("rank", col(0), (), (), None),
                        fun("rows", col(0), (), (), None), fun("lag", None, (), (), None), fun("nothing", None, (), (), None),
                        fun("rank", None, (), (), here), fun("dense", None, (), (), here), fun("place", None, (), (), here),
                        fun("lag", col(0), (), (), here), fun("lead", col(0), (), (), here), fun("sum", col(0), None, (), None),
@@ -191,7 +192,7 @@ class NotRightTest(unittest.TestCase):
     def test_expressions(self):
         for expr in [(), ("col",), col(-1), col(3), col(True), col(None), col("0"), ("col", 0, 0), ("const", "int"), ("const", "int", True),
                      ("const", "int", "x"), ("const", "bool", 1), ("const", "text", 5), ("const", "text", "%"), ("const", "int", 10 ** 18),
-                     ("const", "number", 1), ("const", None, None), ("const", ("int",), 1), ("op", "add"), op("add", num(1)),
+                     ("const", "number", 1), ("const", "number", None), ("const", None, None), ("const", ("int",), 1), ("op", "add"), op("add", num(1)),
                      op("add", num(1), num(1), num(1)), op("add", num(1), text("x")), op("eq", num(1), text("x")), op("nothing", num(1)),
                      op("in", num(1)), ("op", "neg", num(1)), ("op", "neg", None), ("op", ("neg",), (num(1),)), ("op", None, ()),
                      ("op", "neg", (1,)), ("case", (), num(1)), ("case", ((num(1), num(1)),), num(1)),
@@ -286,6 +287,13 @@ class OrderTest(unittest.TestCase):
         # The function of a window has this word, too, but there are expressions in it.
         inside = ("exists", nested(99))
         self.assertEqual(told(("window", (("rows", None, (inside,), (), None),), SCAN_T)), "TooMuch")
+
+    def test_tuples_with_other_texts_do_not_count_as_nested(self):
+        other = ()
+        for _ in range(150):
+            other = ("count", other)
+        self.assertEqual(told(("distinct", other)), "BadKind")
+        self.assertEqual(told(other), "BadKind")
 
     def test_what_is_nested_but_begins_with_no_word(self):
         deep = ()

@@ -33,6 +33,28 @@ QUERIES = ["SELECT *", "SELECT t.*, a, a AS b FROM t", "SELECT DISTINCT 1", "SEL
            "WITH start AS (SELECT 1) SELECT f() OVER (ROWS BETWEEN 3 PRECEDING AND 3 FOLLOWING) AS here FROM start"]
 
 
+# How tightly each form binds, how many things it nests that are counted, and how tightly what stands in it must bind.
+FORMS = [("{} OR {}", 1, 0, (1, 2)), ("{} AND {}", 2, 0, (2, 3)), ("NOT {}", 3, 1, (3,)), ("{} = {}", 4, 0, (5, 5)), ("{} < {}", 4, 0, (5, 5)),
+         ("{} IN ({})", 4, 0, (5, 1)), ("{} NOT IN ({})", 4, 0, (5, 1)), ("{} IN ({}, {})", 4, 0, (5, 1, 1)), ("{} NOT IN ({}, {})", 4, 0, (5, 1, 1)),
+         ("{} BETWEEN {} AND {}", 4, 0, (5, 5, 5)), ("{} NOT BETWEEN {} AND {}", 4, 0, (5, 5, 5)), ("{} NOT LIKE {}", 4, 0, (5, 5)),
+         ("{} IS NOT NULL", 4, 0, (5,)), ("{} IS FALSE", 4, 0, (5,)), ("{} IN (SELECT {})", 4, 1, (5, 1)),
+         ("{} NOT IN (SELECT {})", 4, 1, (5, 1)), ("{} + {}", 5, 0, (5, 6)),
+         ("{} - {}", 5, 0, (5, 6)), ("{} * {}", 6, 0, (6, 7)), ("{} / {}", 6, 0, (6, 7)), ("-{}", 7, 1, (7,)), ("({})", 8, 1, (1,)),
+         ("({})", 8, 1, (1,)), ("({})", 8, 1, (1,)), ("abs({})", 8, 1, (1,)), ("CASE WHEN {} THEN {} END", 8, 1, (1, 1)), ("(SELECT {})", 8, 1, (1,)),
+         ("f(1, {})", 8, 1, (1,))]
+
+
+def deep_text(rng, level, left, size):
+    """An expression in which one thing is nested in the other, with at most so many that are counted."""
+    fit = [form for form in FORMS if form[1] >= level and form[2] <= left]
+    if size == 0 or not fit:
+        return rng.choice("ab")
+    form, _, cost, holes = rng.choice(fit)
+    spine = rng.randrange(len(holes))
+    return form.format(*[deep_text(rng, hole, left - cost, size - 1 if place == spine else rng.choice([0, 0, 0, 2]))
+                         for place, hole in enumerate(holes)])
+
+
 class PrinterTest(unittest.TestCase):
     def check(self, text):
         """What is printed is read as an equal tree, and printed once more it is the same."""
@@ -125,19 +147,10 @@ class PrinterTest(unittest.TestCase):
     def test_deep_texts_by_chance(self):
         """Expressions that use all that may be nested, so that not one thing more may be nested when printed."""
         rng = random.Random(3)
-        ways = [("({})", 1), ("NOT ({})", 2), ("-{}", 1), ("a IN ({})", 0), ("a NOT IN ({})", 0), ("a IN (b, {})", 0),
-                ("a NOT IN ({}, c)", 0), ("(a = {})", 1), ("(a IN ({}))", 1), ("({}) NOT IN (b)", 1), ("({}) BETWEEN 1 AND 2", 1),
-                ("(a OR {})", 1), ("(a AND {})", 1), ("({} AND a)", 1), ("({}) IS NOT TRUE", 1), ("abs({})", 1),
-                ("CASE WHEN {} THEN 1 END", 1), ("a NOT IN (SELECT {})", 1), ("(SELECT {})", 1)]
         read = 0
-        while read < 700:
-            text, left = "{}", 11
-            for _ in range(rng.randrange(5, 40)):
-                way, many = rng.choice(ways)
-                if many <= left:
-                    text, left = text.format(way), left - many
-            text = "SELECT " + text.format(rng.choice(["b", "b OR c", "NOT b" if left else "b", "b = c"]))
-            if len(text) <= 3000 and outcome(parse, text)[0] == "query":
+        while read < 1200:
+            text = "SELECT " + deep_text(rng, 1, 11, rng.randrange(20, 60))
+            if len(text) <= 3000 and outcome(parse, text) != "TooMuch":
                 read += 1
                 self.check(text)
 
@@ -159,6 +172,9 @@ class PrinterTest(unittest.TestCase):
         with self.assertRaises(TooMuch) as told:
             printed(tree)
         self.assertIs(type(told.exception), TooMuch)
+        longest = "SELECT 11" + ",1" * 997
+        self.assertEqual(len(printed(parse(longest))), 3000)
+        self.assertEqual(outcome(printed, parse("SELECT 1" + longest[7:])), "TooMuch")
         # One out of four signs more or less: the first that is too long has more than 3000.
         taken = [many for many in range(950, 1050) if outcome(printed, parse("SELECT " + ",".join(["1"] * many))) != "TooMuch"]
         longest = printed(parse("SELECT " + ",".join(["1"] * taken[-1])))
