@@ -8,16 +8,13 @@ from peristyle.value import kind_of_value
 
 def bound_expr(tree, spot, wanted):
     """A whole expression and its kind, which must be the wanted one unless that is ANY."""
-    scope = spot.scope
     try:
         told = _bound_as(tree, spot, wanted)
     except (BadName, BadKind, TooMuch):
         # What has a mistake in it is no key, so names before the mistake stay left over.
-        if scope.left_over:
-            raise BadName(scope.left_over[0])
+        spot.scope.refuse_left_over(spot.setting.scopes)
         raise
-    if scope.left_over:
-        raise BadName(scope.left_over[0])
+    spot.scope.refuse_left_over(spot.setting.scopes)
     return told
 
 

@@ -42,10 +42,20 @@ class Scope:
         found = [index for index, told in enumerate(self.names) if told == name]
         return [index for index in found if owner is None or self.owners[index] == owner]
 
-    def note(self, index, place):
-        """Note that a name at the place means a column."""
+    def note(self, index, place, around):
+        """Note that a name at the place means a column; around are the scopes of the queries around."""
         if self.group_keys is not None and ("col", index) not in self.group_keys:
-            self.left_over.append(place)
+            self.left_over.append((place, [len(scope.left_over) for scope in around]))
+
+    def refuse_left_over(self, around):
+        """Refuse the first name that is left over, if there is one."""
+        if not self.left_over:
+            return
+        place, counts = self.left_over[0]
+        # What was noted later further out does not go before it.
+        for scope, many in zip(around, counts):
+            del scope.left_over[many:]
+        raise BadName(place)
 
     def is_key(self, expr):
         """Tell whether an expression is a key of the grouped select."""
@@ -113,12 +123,13 @@ class Spot:
 def looked_up(tree, spot):
     """The column or outer that a name means, and its kind."""
     _, owner, name, place = tree
-    for level, scope in enumerate([spot.scope] + spot.setting.scopes):
+    scopes = [spot.scope] + spot.setting.scopes
+    for level, scope in enumerate(scopes):
         found = scope.called(owner, name)
         if len(found) > 1 or (not found and owner is not None and scope.has_source(owner)):
             raise BadName(place)
         if found:
-            scope.note(found[0], place)
+            scope.note(found[0], place, scopes[level + 1:])
             leaf = ("outer", level, found[0]) if level else ("col", found[0])
             return leaf, scope.kinds[found[0]]
         if scope.closed:

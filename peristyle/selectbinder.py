@@ -135,9 +135,8 @@ class Select:
             raise BadName(out[-1])
         indexes = self.scope.columns_of(out[1]) if len(out) == 3 else range(len(self.scope.kinds))
         for index in indexes:
-            self.scope.note(index, out[-1])
-            if self.scope.left_over:
-                raise BadName(out[-1])
+            self.scope.note(index, out[-1], [])
+            self.scope.refuse_left_over([])
             self.add(self.settled(("col", index)), self.scope.kinds[index], self.scope.names[index])
 
     def add(self, expr, kind, name):

@@ -281,6 +281,14 @@ class OrderOfMistakesTest(MistakesTest):
         self.check_bad("SELECT a FROM t GROUP BY b HAVING q", "BadName", "q")
         self.check_bad("SELECT 1 + (SELECT t.a + q FROM u) FROM t GROUP BY b", "BadName", "t.a + q")
 
+    def test_names_that_are_left_over_of_two_queries(self):
+        for inside, place in (("d + t.a", "d + t"), ("t.a + d", "t.a + d"), ("d + t.a + q", "d + t"), ("t.a + d + q", "t.a + d"),
+                              ("u.a + t.a", "t.a FROM"), ("u.a + d", "d FROM")):
+            self.check_bad(f"SELECT (SELECT {inside} FROM u GROUP BY u.a) FROM t GROUP BY t.b", "BadName", place)
+        self.check_bad("SELECT a + (SELECT d FROM u GROUP BY u.a) FROM t GROUP BY b", "BadName", "a + (")
+        self.check_bad("SELECT (SELECT * FROM u GROUP BY u.a) + a FROM t GROUP BY b", "BadName", "* FROM")
+        self.check_bad("SELECT a + (SELECT * FROM u GROUP BY u.a) FROM t GROUP BY b", "BadName", "a + (")
+
     def test_which_places_mistakes_have(self):
         self.check_bad("SELECT 1 + (('x'))", "BadKind", "'x'")
         self.check_bad("SELECT ('x' || 'y') + 1", "BadKind", "'x'")
