@@ -6,9 +6,9 @@ from peristyle.aggs import agg_of
 class Part:
     """The rows of a part in their order: what each has in the order and the argument of a function."""
 
-    def __init__(self, ranks, args):
+    def __init__(self, ranks, worths):
         self.ranks = ranks
-        self.args = args
+        self.worths = worths
         self.many = len(ranks)
         self.firsts = []
         self.groups = []
@@ -40,9 +40,9 @@ class Part:
         if name == "dense":
             return self.groups[place] + 1
         if name == "lag":
-            return self.args[place - 1] if place > 0 else None
+            return self.worths[place - 1] if place > 0 else None
         if name == "lead":
-            return self.args[place + 1] if place + 1 < self.many else None
+            return self.worths[place + 1] if place + 1 < self.many else None
         if frame is None:
             return self.over(name, 0, self.lasts[place])
         first = max(0, self.edge(frame[0], place))
@@ -60,5 +60,5 @@ class Part:
     def over(self, name, first, last):
         """What an agg tells for the rows from one place to another."""
         if (first, last) not in self.told:
-            self.told[(first, last)] = agg_of(name, False, self.args[first:max(first, last + 1)])
+            self.told[(first, last)] = agg_of(name, False, self.worths[first:max(first, last + 1)])
         return self.told[(first, last)]

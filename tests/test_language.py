@@ -10,6 +10,8 @@ import tokenize
 import unittest
 import warnings
 
+from tests.language_uses import USES, check_arguments, check_classes, unused_names
+
 PACKAGE = pathlib.Path(__file__).resolve().parent.parent / "peristyle"
 
 LIBRARY = {
@@ -354,7 +356,7 @@ def check_tables(file):
 
 
 CHECKS = (check_tables, check_characters, check_sizes, check_imports, check_module_level, check_names, check_attributes, check_builtins,
-          check_words, check_strings, check_operations, check_statements, check_bindings)
+          check_words, check_strings, check_operations, check_statements, check_bindings) + USES
 
 
 def mistakes(name, text):
@@ -416,11 +418,54 @@ class PackageTest(unittest.TestCase):
             self.assertTrue(free, "files that import from each other")
             done += free
 
+    def test_classes_and_calls_of_the_whole_package(self):
+        trees = {path.name: ast.parse(path.read_text()) for path in package_files()}
+        self.assertEqual(check_classes(trees), [])
+        self.assertEqual(check_arguments(trees), [])
+
+    def test_no_import_and_no_private_function_is_left_over(self):
+        for path in package_files():
+            self.assertEqual(unused_names(File(path.name, path.read_text(encoding="utf-8"))), [], path.name)
+
     def test_no_line_gives_a_warning(self):
         with warnings.catch_warnings():
             warnings.simplefilter("error")
             for path in package_files():
                 compile(path.read_text(encoding="utf-8"), str(path), "exec")
+
+
+BARRED_ATTRIBUTES = """items keys values pop update append clear extend insert remove reverse setdefault sort args encode
+decode hex fromhex format as_integer_ratio bit_count conjugate from_bytes is_integer to_bytes real numerator isupper
+startswith splitlines discard union popitem fromkeys maketrans rjust bit_length""".split()
+NOT_ITERATED = [f"def f(a, b):\n    {line}" for line in (
+    "return range(a)", "return (range(a), b)", "c = range(a) if b else [1]\n    return [x for x in c]",
+    "c = [1] if b else range(a)\n    return [x for x in c]", "return f(range(a), b)", "a.b = range(3)", "a[0] = zip(a, b)",
+    "c = zip(a, b)\n    for x in c:\n        pass\n    for x in c:\n        pass", "return zip(a, b)",
+    "c = range(a)\n    return c", "c = range(a)\n    return f(c, b)", "c = range(a)\n    c = [1]\n    return c[0]",
+    "c = range(a)\n    if c:\n        return 1", "c = range(a)\n    return lambda: c[0]", "c = a.items()\n    return c[0]",
+    "c: int = range(a)\n    return c[0]", "c = d = range(a)\n    return c[0]", "b = range(a)\n    return b[0]",
+    "c = a.values()\n    return c", "c = a.values()\n    return list(enumerate(c))", "return a.keys()",
+    "return len(zip(a, b))", "return len(enumerate(a))", "return reversed(a)", "return list(reversed(a.items()))",
+    "return list(reversed(zip(a, b)))", "return a in b.values()", "return a in b.items()", "return a in zip(a, b)",
+    "return range(a) == range(b)", "return a == b.keys()", "return list(zip(a, range(3)))", "return list(zip(a, b.values()))",
+    "return max(a, b.values())", "return max(*a.values())", "return [*range(a)]", "return range(a)[0]",
+    "c, d = zip(a, b)\n    return c", "c, *d = range(a)\n    return c", "a.extend(b.items())", "a += range(3)",
+    "return set(a.values())", "return a or b.values()", "return lambda: range(a)",
+    "for x in range(a) if b else range(3):\n        pass", "for x in a.items() or b:\n        pass",
+    "c = enumerate(a)\n    for x in b:\n        for y in c:\n            pass", "yield a", "return str(range(a))",
+    "for x in a:\n        a.append(x)", "for x, y in a.items():\n        a[x] = 1", "for x, y in enumerate(a):\n        del a[x]",
+    "for x in a.b:\n        a.b.pop()", "for x in (a if b else [1]):\n        a.append(x)",
+)]
+ITERATED = [f"def f(a, b):\n    {line}" for line in (
+    "for x in range(a):\n        pass", "return [x for x in zip(a, b)]", "return list(range(a))", "return tuple(zip(a, b))",
+    "return dict(zip(a, b))", "return sorted(a.items())", "return sum(a.values())", "return max(a.values())",
+    "return max(a.values(), default=0)", "return list(enumerate(a.items()))", "return list(zip(a.values(), b))",
+    "return ','.join(a.keys())", "return len(a.items())", "return len(range(a))", "return list(reversed(range(a)))",
+    "return a in b.keys()", "return a in range(b)", "c = range(a)\n    return [c[0], len(c), a in c, list(c)]",
+    "c = zip(a, b)\n    return list(c)", "c = a.items()\n    return len(c) + max(c)", "c = range(a)\n    return list(zip(c, b))",
+    "c = zip(a, b)\n    for x in c:\n        pass", "return {k: v for k, v in a.items()}", "return list(reversed(a))",
+    "for x in list(a):\n        a.append(x)", "for x in a:\n        b.append(x)", "return any(a.values())",
+)]
 
 
 class ChecksTest(unittest.TestCase):
@@ -461,7 +506,7 @@ def told(box, at=0):
         "L5": ["class A:\n    if True:\n        x = 1"],
         "L6": ["def f():\n    global x\n    x = 1", "async def f():\n    pass",
                "def f():\n    try:\n        pass\n    except:\n        pass"],
-        "L7": ["def f(a):\n    return a / 2", "X = 1.5"],
+        "L7": ["def f(a):\n    return a / 2", "X = 1.5", "def f(a):\n    return (x for x in a)"],
         "L8": ["def f(x):\n    return print(x)", "def f(x):\n    return type(x)", "def f(x):\n    return x.__dict__",
                "def f():\n    return round(1)", "def __odd__():\n    return 1"],
         "L10": ["X = '" + "x" * 120 + "'", "def f():\n" + "    f()\n" * 40, "X = 1\n" + "\n" * 398 + "Y = 1"],
@@ -475,15 +520,32 @@ def told(box, at=0):
         "L17": ["X = 'a'\nY = 'namedtuple'", "def f(x):\n    return x.mro", "def f(x):\n    x.f_back = 1",
                 "def compile(x):\n    return x", "def f(vars):\n    return vars", "from peristyle.value import Enum"],
         "L19": ["def f():\n    try:\n        pass\n    except TypeError:\n        pass"],
+        "L13": ["def f(xs):\n    return sorted(xs, key=lambda x: x), sorted(xs, key=lambda x: -x)"],
         "L20": ["def f(a):\n    return a.b is 'x'", "def f(a):\n    return a[0] is a[1]"],
+        "L22": ["def f(xs):\n    return isinstance(xs, (int, object))", "def f(xs):\n    return int(xs, base=2)",
+                "def f(xs):\n    return xs(range)"],
+        "L23": NOT_ITERATED,
+        "L24": ["def f(xs):\n    for x in set(xs):\n        f(x)", "def f(xs):\n    return {1, xs}",
+                "def f(xs):\n    a = set(xs)\n    return a", "def f(d):\n    return 1 in set(d.keys())",
+                "def f(xs):\n    a = set(xs)\n    return [x for x in a]", "def f(a):\n    a.b = set()"],
         "L25": ["def f(x):\n    return x.ljust(3).as_integer_ratio()", "def f(x):\n    return x.popitem()"],
-        "L26": ["def f(x):\n    x.items = 1", "def f(x):\n    x.bit_length = 1"],
+        "L26": ["class A:\n    def __init__(self):\n        self." + name + " = 1" for name in BARRED_ATTRIBUTES]
+               + ["def f(x):\n    x.args = 1", "def f(x):\n    x.args += 1", "def f(x):\n    x.args: int = 1",
+                  "def f(x):\n    for x.args in (1, 2):\n        pass", "def f(x):\n    y, x.args = 1, 2",
+                  "def f(x):\n    setattr(x, 'args', 1)", "def f(x):\n    return x.args", "class A:\n    args = 1",
+                  "class A:\n    __slots__ = ('args',)", "def f(x):\n    with x as x.args:\n        pass",
+                  "def f(x):\n    match x:\n        case A(args=1):\n            return 1",
+                  "class A:\n    def decode(self):\n        return 1", "class A:\n    def title(self):\n        return 1"],
         "L27": ["X = 'a" + PERCENT + "'", "X = '\\x41'", "def f(n):\n    return f'{n}" + PERCENT + "'", "X = 'a._'", "def f(n):\n    return chr(n)", "X = 2 ** 65",
                 "X = '__odd__'"],
     }
 
     def test_good_code(self):
         self.assertEqual(mistakes("good.py", self.GOOD), [])
+        for text in ITERATED:
+            with self.subTest(text):
+                found = [line for line in mistakes("good.py", text) if "L23" in line or "L22" in line]
+                self.assertEqual(found, [])
 
     def test_bad_code(self):
         for rule, texts in self.BAD.items():
