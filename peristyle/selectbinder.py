@@ -133,7 +133,7 @@ class Select:
             return
         if not self.sources or (len(out) == 3 and not self.scope.has_source(out[1])):
             raise BadName(out[-1])
-        indexes = self.scope.columns_of(out[1]) if len(out) == 3 else range(len(self.scope.kinds))
+        indexes = list(range(len(self.scope.kinds))) if len(out) == 2 else self.scope.columns_of(out[1])
         for index in indexes:
             self.scope.note(index, out[-1], [])
             self.scope.refuse_left_over([])
