@@ -8,7 +8,7 @@ from peristyle.shape import plans_of
 
 def facts(plan, schemas):
     """Which columns may be null, which may be a fault, whether the plan may fail, and its keys."""
-    told = _known(plan, {schema[0]: schema for schema in schemas})
+    told = known(plan, {schema[0]: schema for schema in schemas})
     return tuple(told.nulls), tuple(told.faults), told.fails, list(told.unique)
 
 
@@ -38,8 +38,13 @@ def _never(many):
     return [False] * many
 
 
-def _known(plan, tables):
-    inputs = [_known(below, tables) for below in plans_of(plan)]
+def known(plan, tables):
+    """What is known of a right plan; tables is a dict from names to schemas."""
+    return known_over(plan, [known(below, tables) for below in plans_of(plan)], tables)
+
+
+def known_over(plan, inputs, tables):
+    """The same, if it is known already what its inputs are like."""
     tell = TELLERS[plan[0]]
     return tell(plan, inputs, tables)
 
@@ -57,21 +62,21 @@ def _rows(plan, inputs, tables):
 
 def _where(plan, inputs, tables):
     inner = inputs[0]
-    fails = inner.fails or _may_be_fault(plan[1], inner.faults, tables)
+    fails = inner.fails or may_be_fault(plan[1], inner.faults, tables)
     return Known(inner.nulls, inner.faults, fails, inner.unique)
 
 
 def _select(plan, inputs, tables):
     inner = inputs[0]
     nulls = [_may_be_null(expr, inner.nulls) for expr in plan[1]]
-    faults = [_may_be_fault(expr, inner.faults, tables) for expr in plan[1]]
+    faults = [may_be_fault(expr, inner.faults, tables) for expr in plan[1]]
     return Known(nulls, faults, inner.fails, select_keys(plan[1], inner.unique))
 
 
 def _join(plan, inputs, tables):
     _, kind, cond, _, _ = plan
     left, right = inputs
-    fails = left.fails or right.fails or _may_be_fault(cond, left.faults + right.faults, tables)
+    fails = left.fails or right.fails or may_be_fault(cond, left.faults + right.faults, tables)
     told = join_keys(kind, cond, left.unique, right.unique, len(left.nulls))
     if kind in ("semi", "anti"):
         return Known(left.nulls, left.faults, fails, told)
@@ -87,7 +92,7 @@ def _group(plan, inputs, tables):
     _, group_keys, aggs, _ = plan
     inner = inputs[0]
     nulls = [_may_be_null(expr, inner.nulls) for expr in group_keys]
-    faults = [_may_be_fault(expr, inner.faults, tables) for expr in group_keys]
+    faults = [may_be_fault(expr, inner.faults, tables) for expr in group_keys]
     fails = inner.fails or any(faults)
     nulls = nulls + [name not in ("rows", "count") for name, _, _ in aggs]
     told = [_may_call_be_fault(name, arg, inner.faults, tables) for name, _, arg in aggs]
@@ -124,7 +129,7 @@ def _window(plan, inputs, tables):
     faults = _never(len(inner.nulls))
     for name, arg, partition, order, _ in plan[1]:
         sorting = list(partition) + [item[0] for item in order]
-        fails = fails or any([_may_be_fault(expr, inner.faults, tables) for expr in sorting])
+        fails = fails or any([may_be_fault(expr, inner.faults, tables) for expr in sorting])
         nulls.append(name not in ("rows", "count"))
         faults.append(_may_call_be_fault(name, arg, inner.faults, tables))
     return Known(nulls, faults, fails, inner.unique)
@@ -133,34 +138,35 @@ def _window(plan, inputs, tables):
 def _top(plan, inputs, tables):
     inner = inputs[0]
     sorting = [item[0] for item in plan[1]]
-    fails = inner.fails or any(inner.faults) or any([_may_be_fault(expr, inner.faults, tables) for expr in sorting])
+    fails = inner.fails or any(inner.faults) or any([may_be_fault(expr, inner.faults, tables) for expr in sorting])
     return _without_faults(inner, fails, inner.unique)
 
 
 def _may_call_be_fault(name, arg, faults, tables):
     if name == "rows" or name in NUMBERINGS:
         return False
-    return name == "sum" or _may_be_fault(arg, faults, tables)
+    return name == "sum" or may_be_fault(arg, faults, tables)
 
 
-def _may_be_fault(expr, faults, tables):
+def may_be_fault(expr, faults, tables):
+    """Tell whether an expression, perhaps with plans in it, may be a fault by the list of [7.2]."""
     word = expr[0]
     if word == "col":
         return faults[expr[1]]
     if word == "op":
-        return may_fault(expr[1]) or any([_may_be_fault(arg, faults, tables) for arg in expr[2]])
+        return may_fault(expr[1]) or any([may_be_fault(arg, faults, tables) for arg in expr[2]])
     if word == "case":
         exprs = [part for pair in expr[1] for part in pair] + [expr[2]]
-        return any([_may_be_fault(part, faults, tables) for part in exprs])
+        return any([may_be_fault(part, faults, tables) for part in exprs])
     if word in ("const", "outer"):
         # Whatever stands in the rows of the queries around, faults too.
         return word == "outer"
-    inner = _known(expr[-1], tables)
+    inner = known(expr[-1], tables)
     if inner.fails or word == "exists":
         return inner.fails
     if word == "scalar":
         return inner.faults[0] or () not in inner.unique
-    return inner.faults[0] or _may_be_fault(expr[1], faults, tables)
+    return inner.faults[0] or may_be_fault(expr[1], faults, tables)
 
 
 def _may_be_null(expr, nulls):

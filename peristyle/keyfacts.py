@@ -2,6 +2,9 @@
 
 from peristyle.plan import parts
 
+# The keys of many joined sides are far too many to tell all of them.
+MOST_JOINED = 500
+
 
 def without_twins(group_keys):
     """The keys without those that stand there twice."""
@@ -25,14 +28,29 @@ def join_keys(kind, cond, left, right, many):
     if kind not in ("inner", "left"):
         return []
     moved_right = [tuple([index + many for index in told]) for told in right]
-    found = [told + other for told in left for other in moved_right]
     pairs = equal_columns(cond, many)
     # Each row of one side has then at most one partner.
-    if _has_key(left if kind == "inner" else [], [pair[0] for pair in pairs]):
-        found.extend(moved_right)
-    if _has_key(moved_right, [pair[1] for pair in pairs]):
-        found.extend(left)
-    return without_twins(found)
+    alone = []
+    if has_key(left if kind == "inner" else [], [pair[0] for pair in pairs]):
+        alone.extend(moved_right)
+    if has_key(moved_right, [pair[1] for pair in pairs]):
+        alone.extend(left)
+    if len(left) * len(right) <= MOST_JOINED:
+        found = [told + other for told in left for other in moved_right]
+        return without_twins(found + alone)
+    # Each joined key has one of those in it that hold alone.
+    return without_twins(alone) or [told + other for told in _least_keys(left) for other in _least_keys(moved_right)]
+
+
+def _least_keys(group_keys):
+    """The keys that have no other one in them; a list of very many is made of such keys already."""
+    if len(group_keys) > MOST_JOINED:
+        return group_keys
+    least = []
+    for told in sorted(group_keys, key=len):
+        if not has_key(least, told):
+            least.append(told)
+    return least
 
 
 def equal_columns(cond, many):
@@ -46,5 +64,6 @@ def equal_columns(cond, many):
     return pairs
 
 
-def _has_key(group_keys, columns):
+def has_key(group_keys, columns):
+    """Tell whether the columns have a key among them."""
     return any([all([index in columns for index in told]) for told in group_keys])

@@ -29,6 +29,18 @@ def width(plan, tables):
     return total
 
 
+def has_room(node, level, many):
+    """Tell whether a plan or an expression may stand at a level if it may have so many nodes."""
+    waiting = [(node, level)]
+    while waiting:
+        part, depth = waiting.pop()
+        many -= 1
+        if depth > MOST_LEVELS or many < 0:
+            return False
+        waiting.extend([(below, depth + 1) for below in exprs_of(part) + plans_of(part)])
+    return True
+
+
 def check_limits(plan, tables):
     """Refuse a plan that is too wide, too deep or too large by TooMuch."""
     many = 0

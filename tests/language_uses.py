@@ -457,7 +457,7 @@ def fits(call, args, skip):
     only = [arg.arg for arg in args.kwonlyargs]
     optional = places[len(places) - len(args.defaults):] if args.defaults else []
     optional = optional + [name for name, default in zip(only, args.kw_defaults) if default is not None]
-    if len(call.args) > len(places) or len(set(given)) != len(given):
+    if len(call.args) > len(places) and args.vararg is None or len(set(given)) != len(given):
         return False
     if any(name not in places + only for name in given):
         return False

@@ -26,6 +26,10 @@ FUNCTIONS = {
     "meaning": {"answer": ["plan", "tables"], "value_of": ["expr", "row", "outers", "tables"],
                 "bag": ["plan", "outers", "tables"]},
     "facts": {"facts": ["plan", "schemas"], "safe": ["expr", "faults"]},
+    "rules": {"found": ["plan", "schemas"]},
+    "checker": {"takes": ["plan", "step", "schemas"], "takes_all": ["plan", "steps", "schemas"]},
+    "estimate": {"size": ["running", "stats"], "cost": ["running", "stats"]},
+    "running": {"plan_of": ["running"], "simple": ["plan"]},
 }
 CLASSES = {
     "errors": {"PeristyleError": {}, "BadText": {"__init__": ["self", "at"]}, "BadName": {"__init__": ["self", "at"]},
