@@ -1,6 +1,6 @@
 """What is told of several values at once ([6.4])."""
 
-from peristyle.value import LIMIT, SIZE, fault, least_fault
+from peristyle.value import LIMIT, SIZE, fault, is_fault, least_fault
 
 
 def agg_of(name, distinct, values):
@@ -18,10 +18,14 @@ def agg_of(name, distinct, values):
     return _told(name, there) if there else None
 
 
+def sized(total):
+    """A sum, or the fault that it is too great."""
+    return total if -LIMIT < total < LIMIT else fault(SIZE)
+
+
 def _told(name, values):
     if name == "sum":
-        total = sum(values)
-        return total if -LIMIT < total < LIMIT else fault(SIZE)
+        return sized(sum(values))
     if name == "avg":
         return sum(values) // len(values)
     if name == "min":
@@ -29,3 +33,51 @@ def _told(name, values):
     if name == "max":
         return max(values)
     return all(values) if name == "every" else any(values)
+
+
+def counts_each_once(name, distinct):
+    """Tell whether it matters for an agg that of equal values just one counts."""
+    return distinct and name in ("count", "sum", "avg")
+
+
+class Tally:
+    """An agg of values that are told one after the other; "rows" counts whatever is told."""
+
+    def __init__(self, name):
+        self.name = name
+        self.many = 0
+        self.total = 0
+        self.best = None
+        self.fault = None
+
+    def add(self, value):
+        """Tell one more value."""
+        if self.name == "rows":
+            self.many += 1
+        elif is_fault(value):
+            self.fault = least_fault([self.fault, value])
+        elif value is not None:
+            self.many += 1
+            if self.name in ("sum", "avg"):
+                self.total += value
+            elif self.name != "count":
+                self.best = value if self.best is None else self.better(value)
+
+    def better(self, value):
+        """What is told of the best value so far and one more."""
+        # Some is the greatest, every the least of truth values.
+        if self.name in ("max", "some"):
+            return max(self.best, value)
+        return min(self.best, value)
+
+    def told(self):
+        """The answer of the agg."""
+        if self.fault is not None:
+            return self.fault
+        if self.name in ("rows", "count"):
+            return self.many
+        if self.many == 0:
+            return None
+        if self.name == "sum":
+            return sized(self.total)
+        return self.total // self.many if self.name == "avg" else self.best

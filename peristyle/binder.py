@@ -4,7 +4,7 @@ from peristyle.errors import BadKind, BadName
 from peristyle.exprbinder import bound_expr, const, is_null
 from peristyle.limits import check_limits
 from peristyle.operators import ANY
-from peristyle.scope import Bound, Scope, Setting, Source, Spot
+from peristyle.scope import Bound, Cte, Scope, Setting, Source, Spot
 from peristyle.selectbinder import Select
 from peristyle.sourcebinder import ONE_ROW
 from peristyle.value import is_whole
@@ -14,8 +14,15 @@ SET_WORDS = {"union": "union", "except": "except", "intersect": "meet"}
 
 def bind(tree, schemas):
     """The plan of a query, and a tuple of the names of its columns."""
+    return bind_beside(tree, schemas, {})
+
+
+def bind_beside(tree, schemas, views):
+    """The same, where names stand for queries; views is a dict from them to triples (plan, names, kinds)."""
     tables = {schema[0]: schema for schema in schemas}
-    bound = _bound_query(tree, Setting(tables, {}, [], _bound_query))
+    # There is no query around that of a view.
+    ctes = {name: Cte(Bound(told[0], list(told[1]), list(told[2])), 0) for name, told in views.items()}
+    bound = _bound_query(tree, Setting(tables, ctes, [], _bound_query))
     return bound.plan, tuple(bound.names)
 
 

@@ -1,6 +1,6 @@
 """Whether a step is an instance of its rule ([8.2])."""
 
-from peristyle.rules import RULES, afters
+from peristyle.rules import RULES, afters_taken
 from peristyle.sight import placed, plan_at, sight_of
 
 
@@ -13,7 +13,7 @@ def takes(plan, step, schemas):
     if part is None:
         return False
     sight = sight_of(part, {schema[0]: schema for schema in schemas})
-    return any([placed(plan, path, new) == after for new in afters(rule, sight)])
+    return any([placed(plan, path, new) == after for new in afters_taken(rule, sight)])
 
 
 def takes_all(plan, steps, schemas):

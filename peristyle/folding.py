@@ -18,6 +18,19 @@ def folded(expr):
     return _each_once(found)
 
 
+def first_folded(expr):
+    """One of these expressions, or None."""
+    found = simpler(expr)
+    if found:
+        return found[0]
+    below = exprs_of(expr)
+    for index, part in enumerate(below):
+        told = first_folded(part)
+        if told is not None:
+            return rebuilt(expr, [*below[:index], told, *below[index + 1:]], plans_of(expr))
+    return None
+
+
 def simpler(expr):
     """The simpler expressions that an expression itself becomes."""
     if expr[0] == "case":

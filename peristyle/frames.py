@@ -14,7 +14,7 @@ class Part:
         self.groups = []
         self.lasts = [0] * self.many
         self.find_peers()
-        self.told = {}
+        self.spans = {}
 
     def find_peers(self):
         """For each row the places of its first and last peers, and the number of its group of peers."""
@@ -59,6 +59,6 @@ class Part:
 
     def over(self, name, first, last):
         """What an agg tells for the rows from one place to another."""
-        if (first, last) not in self.told:
-            self.told[(first, last)] = agg_of(name, False, self.worths[first:max(first, last + 1)])
-        return self.told[(first, last)]
+        if (first, last) not in self.spans:
+            self.spans[(first, last)] = agg_of(name, False, self.worths[first:max(first, last + 1)])
+        return self.spans[(first, last)]

@@ -10,18 +10,44 @@ TRUE = ("const", "bool", True)
 
 def exists(sight):
     """A where by "exists" becomes a semi join."""
-    plan = sight.plan
-    if plan[0] != "where" or plan[1][0] != "exists":
-        return []
-    return _joined(sight, "semi", plan[1][1])
+    query = _query_in(sight.plan)
+    return [] if query is None else _joined(sight, "semi", query)
 
 
 def notexists(sight):
     """A where by a denied "exists" becomes an anti join."""
-    plan = sight.plan
+    query = _denied_in(sight.plan)
+    return [] if query is None else _joined(sight, "anti", query)
+
+
+def exists_of_select(sight):
+    """What exists tells, if the query selects something: which columns its rows have does not matter."""
+    query = _query_in(sight.plan)
+    return [] if query is None or query[0] != "select" else _joined(sight, "semi", _without_selects(query))
+
+
+def notexists_of_select(sight):
+    """The same of notexists."""
+    query = _denied_in(sight.plan)
+    return [] if query is None or query[0] != "select" else _joined(sight, "anti", _without_selects(query))
+
+
+def _query_in(plan):
+    """The plan of a where by "exists", or None."""
+    return plan[1][1] if plan[0] == "where" and plan[1][0] == "exists" else None
+
+
+def _denied_in(plan):
+    """The plan of a where by a denied "exists", or None."""
     if plan[0] != "where" or plan[1][0] != "op" or plan[1][1] != "not" or plan[1][2][0][0] != "exists":
-        return []
-    return _joined(sight, "anti", plan[1][2][0][1])
+        return None
+    return plan[1][2][0][1]
+
+
+def _without_selects(query):
+    while query[0] == "select":
+        query = query[2]
+    return query
 
 
 def _joined(sight, kind, query):
@@ -92,3 +118,8 @@ def _for_both(cond, many):
     if cond[0] == "col":
         return ("col", cond[1] + many)
     return rebuilt(cond, [_for_both(part, many) for part in exprs_of(cond)], [])
+
+
+IN_RULES = {"exists": exists, "notexists": notexists, "within": within}
+# What the checker takes beyond the words of the rules; it keeps the answer for the same reasons.
+FURTHER = {"exists": exists_of_select, "notexists": notexists_of_select}

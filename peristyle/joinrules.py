@@ -190,3 +190,9 @@ def semi(sight):
     if left.width + right.width > MOST_WIDE:
         return []
     return [("select", columns(list(range(left.width))), ("join", "inner", *plan[2:]))]
+
+
+JOIN_RULES = {
+    "down": down, "downright": downright, "on": on, "off": off, "swap": swap, "swapouter": swapouter, "turn": turn,
+    "turnback": turnback, "strict": strict, "drop": drop, "semi": semi,
+}

@@ -71,3 +71,6 @@ def _over_sides(exprs, join, kept, left, right):
     """The select over the join of other sides, which have the kept columns."""
     cond = _moved_to([join[2]], kept)[0]
     return ("select", _moved_to(exprs, kept), ("join", join[1], cond, left, right))
+
+
+PRUNE_RULE = {"prune": prune}

@@ -1,24 +1,20 @@
 """The rules of steps by their names, and all steps that a plan allows ([8.1] to [8.3])."""
 
-from peristyle.inrules import exists, notexists, within
-from peristyle.joinrules import down, downright, drop, off, on, semi, strict, swap, swapouter, turn, turnback
+from peristyle.inrules import FURTHER, IN_RULES
+from peristyle.joinrules import JOIN_RULES
 from peristyle.limits import MOST_NODES, has_room
 from peristyle.plan import nodes
-from peristyle.prunerule import prune
+from peristyle.prunerule import PRUNE_RULE
 from peristyle.sight import placed, sight_of
-from peristyle.whererules import (
-    below_distinct, below_group, below_select, drop_same, drop_true, fold, inline, merge, once, split, unite,
-)
+from peristyle.whererules import WHERE_RULES
 
 MOST_STEPS = 500
 
-RULES = {
-    "split": split, "merge": merge, "true": drop_true, "select": below_select, "inline": inline, "same": drop_same,
-    "down": down, "downright": downright, "on": on, "off": off, "swap": swap, "swapouter": swapouter, "turn": turn,
-    "turnback": turnback, "strict": strict, "unite": unite, "once": once, "oncewhere": below_distinct,
-    "groupwhere": below_group, "prune": prune, "drop": drop, "exists": exists, "notexists": notexists,
-    "within": within, "semi": semi, "fold": fold,
-}
+RULES = (
+    "split", "merge", "true", "select", "inline", "same", "down", "downright", "on", "off", "swap", "swapouter", "turn",
+    "turnback", "strict", "unite", "once", "oncewhere", "groupwhere", "prune", "drop", "exists", "notexists", "within",
+    "semi", "fold",
+)
 
 
 def found(plan, schemas):
@@ -42,5 +38,21 @@ def found(plan, schemas):
 
 def afters(rule, sight):
     """What may stand, by a rule, in place of a plan: right plans, but for their depth and size."""
-    work = RULES[rule]
+    if rule in WHERE_RULES:
+        work = WHERE_RULES[rule]
+    elif rule in JOIN_RULES:
+        work = JOIN_RULES[rule]
+    elif rule in IN_RULES:
+        work = IN_RULES[rule]
+    else:
+        work = PRUNE_RULE[rule]
     return work(sight)
+
+
+def afters_taken(rule, sight):
+    """The same, with what is taken beyond the words of the rule."""
+    told = afters(rule, sight)
+    if rule in FURTHER:
+        work = FURTHER[rule]
+        told = told + work(sight)
+    return told

@@ -136,6 +136,18 @@ def leaves(node, level):
     return found
 
 
+def scanned(node):
+    """The names of the tables that a plan or an expression scans, each once."""
+    found = {}
+    waiting = [node]
+    while waiting:
+        part = waiting.pop()
+        if part[0] == "scan":
+            found[part[1]] = True
+        waiting.extend(exprs_of(part) + plans_of(part))
+    return list(found)
+
+
 def lifted(node, by, own):
     """A plan or an expression that stands further in by so many queries, where it means what it meant.
 

@@ -100,6 +100,15 @@ class Store:
         """The segments of a table at a version."""
         return self._table_at(name, version).segments_at(version)
 
+    def statistic(self, name):
+        """How many rows the last version of a table has, and how many different values each column, without null."""
+        table = self._table(name)
+        tally = table.tally()
+        different = []
+        for index in range(len(table.form[1])):
+            different.append(len(set([row[index] for row in tally if row[index] is not None])))
+        return (sum(tally.values()), tuple(different))
+
     def pack(self, name, packing):
         """Pack all segments of a table by a packing, where it can be used."""
         table = self._table(name)

@@ -1,6 +1,6 @@
 """The rules of steps over wheres, selects and groups ([8.3]); each tells the plans that may stand for a plan."""
 
-from peristyle.folding import folded
+from peristyle.folding import first_folded, folded
 from peristyle.meaning import has_order
 from peristyle.plan import is_and, put_in
 from peristyle.sight import are_from, columns
@@ -115,6 +115,29 @@ def fold(sight):
         return []
     found = []
     for index, expr in enumerate(plan[1]):
-        for told in folded(expr):
-            found.append(("select", (*plan[1][:index], told, *plan[1][index + 1:]), plan[2]))
+        found.extend([_with_expr(plan, index, told) for told in folded(expr)])
     return found
+
+
+def _with_expr(plan, index, expr):
+    return ("select", (*plan[1][:index], expr, *plan[1][index + 1:]), plan[2])
+
+
+def fold_first(sight):
+    """One of the plans that fold tells, or none."""
+    plan = sight.plan
+    if plan[0] == "where":
+        cond = first_folded(plan[1])
+        return [] if cond is None else [("where", cond, plan[2])]
+    if plan[0] == "select":
+        for index, expr in enumerate(plan[1]):
+            told = first_folded(expr)
+            if told is not None:
+                return [_with_expr(plan, index, told)]
+    return []
+
+
+WHERE_RULES = {
+    "split": split, "merge": merge, "true": drop_true, "select": below_select, "inline": inline, "same": drop_same,
+    "unite": unite, "once": once, "oncewhere": below_distinct, "groupwhere": below_group, "fold": fold,
+}

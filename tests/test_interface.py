@@ -30,6 +30,9 @@ FUNCTIONS = {
     "checker": {"takes": ["plan", "step", "schemas"], "takes_all": ["plan", "steps", "schemas"]},
     "estimate": {"size": ["running", "stats"], "cost": ["running", "stats"]},
     "running": {"plan_of": ["running"], "simple": ["plan"]},
+    "optimise": {"candidates": ["plan", "schemas", "stats"]},
+    "run": {"run": ["running", "tables"]},
+    "view": {"can_keep": ["plan", "schemas"], "change_of": ["plan", "schemas", "tables", "change"]},
 }
 CLASSES = {
     "errors": {"PeristyleError": {}, "BadText": {"__init__": ["self", "at"]}, "BadName": {"__init__": ["self", "at"]},
@@ -38,6 +41,19 @@ CLASSES = {
                         "schema": ["self", "name"], "version": ["self"], "commit": ["self", "changes"],
                         "rows": ["self", "name", "version"], "segments": ["self", "name", "version"],
                         "pack": ["self", "name", "packing"], "settle": ["self", "name", "size"]}},
+    "view": {"View": {"__init__": ["self", "plan", "schemas", "tables"], "rows": ["self"], "change": ["self", "change"],
+                      "looked": ["self"]}},
+    "database": {"Database": {"create": ["self", "schema"], "drop": ["self", "name"], "commit": ["self", "changes"],
+                              "schemas": ["self"], "version": ["self"], "pack": ["self", "name", "packing"],
+                              "settle": ["self", "name", "size"], "view": ["self", "name", "text"],
+                              "drop_view": ["self", "name"], "views": ["self"], "kept": ["self", "name"],
+                              "query": ["self", "text"], "explain": ["self", "text"]}},
+}
+# What is passed by name alone, with what it is without that.
+BY_NAME = {
+    "run": {"budget": 1000, "batch": 64, "workers": 1, "turns": ()},
+    "query": {"version": None, "choice": 0, "budget": 1000, "batch": 64, "workers": 1, "turns": ()},
+    "explain": {"choice": 0, "ran": False},
 }
 
 
@@ -49,6 +65,9 @@ class InterfaceTest(unittest.TestCase):
     def check_arguments(self, thing, names):
         """Each may be passed by place and by name, and must be passed."""
         parameters = list(inspect.signature(thing).parameters.values())
+        named = [parameter for parameter in parameters if parameter.kind == parameter.KEYWORD_ONLY]
+        self.assertEqual({parameter.name: parameter.default for parameter in named}, BY_NAME.get(thing.__name__, {}))
+        parameters = [parameter for parameter in parameters if parameter not in named]
         self.assertEqual([parameter.name for parameter in parameters], names)
         for parameter in parameters:
             self.assertEqual(parameter.kind, parameter.POSITIONAL_OR_KEYWORD)

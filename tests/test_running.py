@@ -18,8 +18,8 @@ PLANS = [
     (select(cols(1, 0), SCAN_T), ("select", cols(1, 0), SCAN)),
     (select((), ONE_ROW), ("select", (), ONE_ROW)),
     (union(SCAN_T, SCAN_T), ("union", SCAN, SCAN)),
-    (("except", SCAN_T, SCAN_U), ("except", SCAN, OTHER)),
-    (("meet", SCAN_T, SCAN_U), ("meet", SCAN, OTHER)),
+    (("except", SCAN_U, where(LOW, SCAN_U)), ("except", OTHER, ("where", LOW, OTHER))),
+    (("meet", where(LOW, SCAN_U), SCAN_U), ("meet", ("where", LOW, OTHER), OTHER)),
     (distinct(SCAN_T), ("distinct", SCAN)),
     (group((col(0),), (("rows", False, None),), SCAN_T), ("group", (col(0),), (("rows", False, None),), SCAN)),
     (group((), (), SCAN_T), ("group", (), (), SCAN)),
@@ -29,7 +29,7 @@ PLANS = [
     (top((), 0, 0, SCAN_T), ("top", (), 0, 0, SCAN)),
     (where(exists(where(eq(outer(1, 0), col(0)), SCAN_U)), SCAN_T), ("where", exists(where(eq(outer(1, 0), col(0)), SCAN_U)), SCAN)),
     (select((scalar(top((), 1, 0, select((col(0),), SCAN_U))),), SCAN_T), ("select", (scalar(top((), 1, 0, select((col(0),), SCAN_U))),), SCAN)),
-    (join(SCAN_T, where(inn(col(0), SCAN_U), SCAN_U), SHAKY, "full"), ("loop", "full", SHAKY, SCAN, ("where", inn(col(0), SCAN_U), OTHER))),
+    (join(SCAN_T, where(inn(col(0), select((col(0),), SCAN_U)), SCAN_U), SHAKY, "full"), ("loop", "full", SHAKY, SCAN, ("where", inn(col(0), select((col(0),), SCAN_U)), OTHER))),
 ] + [(join(SCAN_T, SCAN_U, LOW, kind), ("loop", kind, LOW, SCAN, OTHER)) for kind in ("inner", "left", "right", "full", "semi", "anti")]
 
 
