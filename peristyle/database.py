@@ -44,7 +44,6 @@ class Database:
 
     def drop(self, name):
         """Drop a table that no view reads."""
-        self.store.schema(name)
         if any([name in shown.sources for shown in self.shown.values()]):
             raise BadKey()
         self.store.drop(name)

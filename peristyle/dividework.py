@@ -79,6 +79,4 @@ class DivideWork(Operator):
         pile = SortedPile(self.room)
         for row in rows:
             pile.add(row_key(row), row)
-        if pile.is_spilled():
-            pile.spill()
         return pile.finish()

@@ -14,14 +14,19 @@ class Operator:
         self.inputs = inputs
         self.outers = []
         self.above = None
+        self.number = 0
         self.room = Room(course)
         self.ready = []
         self.fault = None
 
-    def go(self, outers, above):
-        """Work for some rows of the queries around; tells the fault with which the plan fails, or None."""
+    def go(self, outers, above, number):
+        """Work for some rows of the queries around; tells the fault with which the plan fails, or None.
+
+        The rows are handed to what is above, of which this is the input of a number.
+        """
         self.outers = outers
         self.above = above
+        self.number = number
         self.room = Room(self.course)
         self.ready = []
         self.fault = None
@@ -41,7 +46,7 @@ class Operator:
         # The right side comes first, so that the left one may be handed through.
         faults = []
         for number in reversed(range(len(self.inputs))):
-            faults.append(self.inputs[number].go(self.outers, Side(self, number)))
+            faults.append(self.inputs[number].go(self.outers, self, number))
         return least_fault(faults)
 
     def receive(self, rows, number):
@@ -67,19 +72,7 @@ class Operator:
         self.ready = []
         if rows:
             self.course.handed += len(rows)
-            self.above.take(rows)
-
-
-class Side:
-    """One input of an operator, as what is below sees it."""
-
-    def __init__(self, owner, number):
-        self.owner = owner
-        self.number = number
-
-    def take(self, rows):
-        """Take rows for the operator."""
-        self.owner.receive(rows, self.number)
+            self.above.receive(rows, self.number)
 
 
 class Share:

@@ -197,8 +197,6 @@ class MergeWork(KeyedWork):
 
     def finish(self):
         """Join the rows with the same key, one key after the other."""
-        if self.sides[LEFT].is_spilled() or self.sides[RIGHT].is_spilled():
-            self.room.spill_all()
         lefts = self.sides[LEFT].finish()
         rights = self.sides[RIGHT].finish()
         at = 0

@@ -1,6 +1,7 @@
 """The methods by which plans may be worked out: which running plans work out a plan ([10.1])."""
 
-from peristyle.joinrules import has_safe_cond, shifted
+from peristyle.facts import safe
+from peristyle.joinrules import pair_faults, shifted
 from peristyle.plan import joined, parts, used
 from peristyle.sight import sight_of, with_inputs
 
@@ -34,7 +35,7 @@ def _ways_to_join(sight, inputs):
     _, kind, cond, _, _ = sight.plan
     loop = ("loop", kind, cond, *inputs)
     pairs = pairs_of(cond, sight.inputs[0].width)
-    if not pairs or not has_safe_cond(sight):
+    if not pairs or not safe(cond, pair_faults(sight)):
         return [loop]
     lefts = tuple([left for left, _ in pairs])
     rights = tuple([right for _, right in pairs])

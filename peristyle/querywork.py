@@ -10,7 +10,7 @@ class Look:
         self.many = 0
         self.first = None
 
-    def take(self, rows):
+    def receive(self, rows, number):
         """Look at rows."""
         if self.many == 0:
             self.first = rows[0][0] if rows[0] else None
@@ -26,7 +26,7 @@ class Different:
         self.is_complete = True
         self.fault = None
 
-    def take(self, rows):
+    def receive(self, rows, number):
         """Look at rows."""
         for row in rows:
             self.look_at(row[0])
@@ -67,7 +67,7 @@ class Search:
         self.has_value = False
         self.fault = None
 
-    def take(self, rows):
+    def receive(self, rows, number):
         """Look at rows."""
         for row in rows:
             self.look_at(row[0])
@@ -117,7 +117,7 @@ class Query:
         key = self.key_of(around)
         if key not in self.answers:
             look = Look()
-            self.keep(key, (self.operator.go(around, look), look))
+            self.keep(key, (self.operator.go(around, look, 0), look))
         return self.answers[key]
 
     def scalar(self, row, outers):
@@ -138,7 +138,7 @@ class Query:
         key = self.key_of(around)
         if self.last is None or self.last[0] != key:
             found = Different(self.course.budget)
-            fails = self.operator.go(around, found)
+            fails = self.operator.go(around, found, 0)
             self.course.note_held(len(found.worths))
             self.last = (key, fails, found)
         _, fails, found = self.last
@@ -152,6 +152,6 @@ class Query:
         """The same, if the plan has more values than may be held."""
         if (key, value) not in self.answers:
             search = Search(value)
-            self.operator.go(around, search)
+            self.operator.go(around, search, 0)
             self.keep((key, value), search.answer())
         return self.answers[(key, value)]

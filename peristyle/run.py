@@ -13,7 +13,7 @@ class Answer:
     def __init__(self):
         self.lines = []
 
-    def take(self, rows):
+    def receive(self, rows, number):
         """Take some rows."""
         self.lines.extend(rows)
 
@@ -22,7 +22,7 @@ def run(running, tables, *, budget=1000, batch=64, workers=1, turns=()):
     """The answer of a running plan, and the counts; tables is a dict from names to pairs (schema, segments)."""
     course = Course(tables, budget, batch, workers, turns)
     found = Answer()
-    told = Host(course).operator_of(running).go([], found)
+    told = Host(course).operator_of(running).go([], found, 0)
     if told is None:
         told = least_fault([value for row in found.lines for value in row])
     if told is None:

@@ -127,6 +127,7 @@ TAKEN = {
         (where(inn(col(0), where(eq(col(0), num(1)), select((col(0),), SCAN_U))), join(SCAN_T, SCAN_U)),
          join(where(inn(col(0), where(eq(col(0), num(1)), select((col(0),), SCAN_U))), SCAN_T), SCAN_U)),
         (where(B_IS_X, join(FAULTY_T, SCAN_U)), join(where(B_IS_X, FAULTY_T), SCAN_U)),
+        (where(col(2), join(SCAN_T, SCAN_U)), join(where(col(2), SCAN_T), SCAN_U)),
     ],
     "downright": [
         (where(op("lt", col(3), num(2)), join(SCAN_T, SCAN_U, KEYED, kind)), join(SCAN_T, where(LOW, SCAN_U), KEYED, kind))
@@ -255,6 +256,8 @@ TAKEN = {
         (where(inn(col(0), select((op("abs", col(1)),), where(op("lt", col(0), outer(1, 0)), SCAN_U))), SCAN_T),
          join(SCAN_T, SCAN_U, conj(op("lt", col(3), col(0)), eq(col(0), op("abs", col(4)))), "semi")),
         (where(inn(col(0), select((col(1),), SCAN_U)), SCAN_T), join(SCAN_T, SCAN_U, conj(TRUE, eq(col(0), col(4))), "semi")),
+        # The table of the rules names eq alone.
+        (where(inn(col(0), select((col(1),), SCAN_U)), SCAN_T), join(SCAN_T, SCAN_U, eq(col(0), col(4)), "semi")),
         (where(inn(NOUGHT, select((NOUGHT,), where(LOW, SCAN_U))), SCAN_T),
          join(SCAN_T, SCAN_U, conj(op("lt", col(3), num(2)), eq(NOUGHT, NOUGHT)), "semi")),
     ],
@@ -433,6 +436,8 @@ REFUSED = {
         ("cond uses a left column that may be a fault", where(exists(where(eq(outer(1, 0), num(1)), SCAN_U)), FAULTY_T),
          join(FAULTY_T, SCAN_U, eq(col(0), num(1)), "semi")),
         ("a plan in d", where(exists(where(exists(SCAN_W), SCAN_U)), SCAN_T), join(SCAN_T, SCAN_U, exists(SCAN_W), "semi")),
+        ("a plan deep in d", where(exists(where(conj(LOW, neg(exists(SCAN_W))), SCAN_U)), SCAN_T),
+         join(SCAN_T, SCAN_U, conj(op("lt", col(3), num(2)), neg(exists(SCAN_W))), "semi")),
         ("denied", where(neg(exists(SCAN_U)), SCAN_T), join(SCAN_T, SCAN_U, TRUE, "semi")),
         ("anti", where(exists(SCAN_U), SCAN_T), join(SCAN_T, SCAN_U, TRUE, "anti")),
     ],
@@ -486,9 +491,14 @@ NOT_FOUND = {
         ("an outer in R", where(neg(exists(select((outer(1, 0),), SCAN_U))), SCAN_T)),
         ("one of the second level", where(neg(exists(where(exists(where(eq(outer(2, 0), col(0)), SCAN_T)), SCAN_U))), SCAN_T)),
         ("denied twice", where(neg(neg(exists(SCAN_U))), SCAN_T)),
+        ("not denied, but asked for null", where(op("isnull", exists(SCAN_U)), SCAN_T)),
+        ("not denied alone", where(conj(neg(exists(SCAN_U)), LOW), SCAN_T)),
     ],
     "within": [
-        ("an outer in R", where(inn(col(0), select((col(0),), select((outer(1, 0),), SCAN_U))), SCAN_T)),
+        ("an outer in R", where(inn(col(0), select((col(0),), select((col(0), outer(1, 0)), SCAN_U))), SCAN_T)),
+        ("a plan deep in d", where(inn(col(0), select((col(0),), where(conj(LOW, neg(exists(SCAN_W))), SCAN_U))), SCAN_T)),
+        ("a plan deep in f", where(inn(FALSE, select((conj(LOW, neg(exists(SCAN_W))),), SCAN_U)), SCAN_T)),
+        ("an outer deep in f", where(inn(col(0), select((op("abs", outer(1, 0)),), SCAN_U)), SCAN_T)),
         ("an outer of the second level", where(inn(col(0), select((col(0),), where(inn(outer(1, 0), select((outer(2, 0),), SCAN_U)), SCAN_U))), SCAN_T)),
         ("a plan in f", where(inn(TRUE, select((exists(SCAN_W),), SCAN_U)), SCAN_T)),
     ],

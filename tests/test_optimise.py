@@ -6,10 +6,11 @@ import unittest
 from peristyle.binder import bind
 from peristyle.checker import takes_all
 from peristyle.estimate import cost
+from peristyle.facts import facts, safe
 from peristyle.grammar import parse
 from peristyle.meaning import answer
 from peristyle.optimise import candidates
-from peristyle.plan import kinds
+from peristyle.plan import kinds, moved, nodes, parts
 from peristyle.run import run
 from peristyle.running import inputs_of, plan_of
 from tests.chanceplans import Chance
@@ -47,6 +48,22 @@ def exact(tables):
 
 
 class OptimiseTest(unittest.TestCase):
+    def check_methods(self, running, schemas):
+        """Joins by keys have keys, and a safe condition."""
+        for below in inputs_of(running):
+            self.check_methods(below, schemas)
+        if running[0] in ("hash", "merge"):
+            _, kind, lefts, rights, cond, left, right = running
+            self.assertIn(kind, ("inner", "left", "right", "full", "semi", "anti"))
+            self.assertGreater(len(lefts), 0)
+            self.assertEqual(len(lefts), len(rights))
+            faults = [facts(plan_of(side), schemas)[1] for side in (left, right)]
+            self.assertIs(safe(cond, faults[0] + faults[1]), True)
+            many = len(faults[0])
+            for one, other in zip(lefts, rights):
+                other = moved(other, range(many, many + len(faults[1])))
+                self.assertTrue(eq(one, other) in parts(cond) or eq(other, one) in parts(cond))
+
     def check(self, plan, stats, tables=None, schemas=RULE_SCHEMAS):
         """The candidates, after a look at each of them."""
         found = candidates(plan, schemas, stats)
@@ -63,6 +80,7 @@ class OptimiseTest(unittest.TestCase):
             last = steps[-1][2] if steps else plan
             self.assertEqual(plan_of(running), last)
             self.assertEqual(kinds(last, schemas), kinds(plan, schemas))
+            self.check_methods(running, schemas)
             if tables is not None:
                 self.assertEqual(run(running, in_segments(tables, 0, 5), budget=7)[0], wanted, (plan, running))
         return found
@@ -154,6 +172,30 @@ class OptimiseTest(unittest.TestCase):
             deep = (where(conj(LOW, LOW), deep), select(cols(1, 0), deep), ("distinct", deep), top((), None, 0, deep))[level % 4]
         kinds(deep, SCHEMAS)
         self.check(deep, WRONG[2])
+        # Another order of this join has one level more, and sixty are there already.
+        deep = join(SCAN_T, SCAN_U)
+        for _ in range(57):
+            deep = top((), None, 0, deep)
+        for plan, there in ((deep, True), (top((), None, 0, deep), False)):
+            kinds(plan, SCHEMAS)
+            for stats in WRONG[:4]:
+                names = [step[0] for steps, _ in self.check(plan, stats) for step in steps]
+                self.assertEqual("swap" in names, there)
+        # A where that goes into both sides of a union brings its nodes twice.
+        cond = LOW
+        for _ in range(7):
+            cond = conj(cond, op("lt", col(1), num(2)))
+        largest = []
+        for many in range(36, 60, 3):
+            plans = [select([op("neg", op("neg", op("neg", op("neg", op("neg", op("neg", col(0)))))))] * 4, SCAN_U)] * many
+            while len(plans) > 1:
+                plans = [("union", *plans[place:place + 2]) if place + 1 < len(plans) else plans[place] for place in range(0, len(plans), 2)]
+            plan = where(cond, plans[0])
+            kinds(plan, SCHEMAS)
+            steps = [step for told, _ in self.check(plan, WRONG[2]) for step in told]
+            largest.append(max(nodes(step[2]) for step in steps))
+        # Here and there not all of it had a place.
+        self.assertGreater(max(largest), 1960)
         large = SCAN_U
         for _ in range(8):
             large = join(large, SCAN_U, eq(col(0), col(2)), "semi")

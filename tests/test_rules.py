@@ -113,7 +113,10 @@ class RulesTest(unittest.TestCase):
                     kinds(before, RULE_SCHEMAS)
                     self.assertEqual(kinds(after, RULE_SCHEMAS), kinds(before, RULE_SCHEMAS))
                     self.assertIs(takes(before, (rule, (), after), RULE_SCHEMAS), False)
-                    self.assertNotIn((rule, (), after), found(before, RULE_SCHEMAS))
+                    steps = found(before, RULE_SCHEMAS)
+                    self.assertNotIn((rule, (), after), steps)
+                    for step in steps:
+                        self.check_step(before, step)
                     outside = top((), None, 0, before)
                     self.assertIs(takes(outside, (rule, (0,), top((), None, 0, after)), RULE_SCHEMAS), False)
 
@@ -122,7 +125,10 @@ class RulesTest(unittest.TestCase):
             for why, plan in cases:
                 with self.subTest(rule=rule, why=why):
                     kinds(plan, RULE_SCHEMAS)
-                    self.assertNotIn((rule, ()), [step[:2] for step in found(plan, RULE_SCHEMAS)])
+                    steps = found(plan, RULE_SCHEMAS)
+                    self.assertNotIn((rule, ()), [step[:2] for step in steps])
+                    for step in steps:
+                        self.check_step(plan, step)
 
     def test_there_and_back(self):
         for there, back in (("on", "off"), ("off", "on"), ("turn", "turnback"), ("turnback", "turn")):
@@ -166,7 +172,7 @@ class RulesTest(unittest.TestCase):
                  eq(("case", ((LOW, right),), right), num(1)), both(eq(right, left), LOW), both(LOW, eq(right, left)), LOW, conj(LOW, LOW),
                  FALSE, NULL, conj(NULL, LOW), eq(num(None), left), eq(op("add", left, num(None)), left), conj(FALSE, LOW),
                  neg(op("isnull", right)), inn(right, select((col(0),), SCAN_U)), neg(both(eq(right, left), LOW)),
-                 eq(col(1), text("x")), neg(conj(eq(right, left), LOW))]
+                 eq(col(1), text("x")), col(2), neg(conj(eq(right, left), LOW))]
         for cond in strict + loose:
             plan = where(cond, join(SCAN_T, SCAN_U, op("le", col(0), col(3)), "left"))
             after = where(cond, join(SCAN_T, SCAN_U, op("le", col(0), col(3))))
@@ -226,6 +232,24 @@ class RulesTest(unittest.TestCase):
         self.assertNotIn("swap", {step[0] for step in found(deep, RULE_SCHEMAS)})
         wide = join(select([col(0)] * 13, SCAN_T), select([col(0)] * 12, SCAN_T), eq(col(0), col(13)), "semi")
         self.assertEqual([step for step in found(wide, RULE_SCHEMAS) if step[0] == "semi"], [])
+        wide = join(select([col(0)] * 12, SCAN_T), select([col(0)] * 12, SCAN_T), eq(col(0), col(12)), "semi")
+        self.assertEqual(len([step for step in found(wide, RULE_SCHEMAS) if step[0] == "semi"]), 1)
+        for many, there in ((1994, True), (1995, False)):
+            # The other order of this join has six nodes more.
+            join_of_both = join(SCAN_T, SCAN_U, LOW)
+            block = select([neg(eq(col(0), col(3)))] * 18, join_of_both)
+            plan = block
+            while nodes(plan) < many - 80:
+                plan = union(plan, block)
+            large = (many - nodes(plan) - 26) // 3
+            plan = union(plan, select([neg(eq(col(0), col(3)))] * large + [TRUE] * (18 - large), join_of_both))
+            while nodes(plan) < many:
+                plan = distinct(plan)
+            kinds(plan, RULE_SCHEMAS)
+            steps = [step for step in found(plan, RULE_SCHEMAS) if step[0] == "swap"]
+            self.assertEqual(len(steps) > 0, there)
+            for step in steps:
+                kinds(step[2], RULE_SCHEMAS)
         large = select([op("add", col(0), op("abs", col(0)))] * 20, SCAN_U)
         for _ in range(20):
             steps = [step for step in found(select([op("add", col(0), col(0))] * 20, large), RULE_SCHEMAS) if step[:2] == ("inline", ())]

@@ -5,12 +5,14 @@ import unittest
 
 from peristyle.meaning import answer
 from peristyle.run import run
+from peristyle.runhost import Host
 from peristyle.running import plan_of, simple
+from peristyle.spool import Course
 from peristyle.store import segment_rows, segmented
 from peristyle.value import is_fault
 from tests.chanceplans import Chance
 from tests.plans import ONE_ROW, SCAN_T, SCAN_U, SCHEMAS, TRUE, asc, col, cols, group, join, num, op, outer, select, text, top, where
-from tests.rulecases import FALSE, LOW, NULL, SHAKY, conj, distinct, eq, exists, fun, inn, neg, scalar, shaky, union, window
+from tests.rulecases import FALSE, LOW, NULL, SHAKY, both, conj, distinct, eq, exists, fun, inn, neg, scalar, shaky, union, window
 from tests.runs import check_run, in_segments, some_way, with_gone_rows
 
 T, U, W = SCHEMAS
@@ -192,6 +194,81 @@ class RunTest(unittest.TestCase):
             self.assertEqual(run(running, segments, workers=4, turns=turns, budget=4)[0], answer(plan_of(running), TABLES))
 
 
+    def test_in_with_more_values_than_the_budget(self):
+        worths = {"few": (1, 2), "many": tuple(range(20)), "null": tuple(range(20)) + (None,), "nulls": (None,) * 3, "none": (), "twice": (1, 1, 2) * 9}
+        sides = [num(3), num(19), num(50), num(None), op("div", num(1), num(0)), op("number", text("x")), op("neg", num(-2))]
+        for name, told in worths.items():
+            rows = ("rows", ("int",), tuple((value,) for value in told))
+            # 1 / 0 and a text that is no number, beside values.
+            faulty = union(rows, select((op("div", num(1), num(0)),), ONE_ROW))
+            both_faults = union(select((op("number", text("x")),), ONE_ROW), faulty)
+            outer_rows = where(op("le", col(0), outer(1, 0)), rows)
+            for side in sides:
+                for plan in (rows, faulty, both_faults, where(op("isnull", op("div", num(1), num(0))), rows)):
+                    for budget in (4, 1000):
+                        with self.subTest(name=name, side=side, plan=plan, budget=budget):
+                            check_run(self, ("select", (inn(side, plan),), ONE_ROW), EMPTY, in_segments(EMPTY), budget=budget)
+            for budget in (4, 1000):
+                check_run(self, ("select", (col(0), inn(col(0), rows), inn(col(1), outer_rows), inn(op("neg", col(1)), rows)), OTHER), TABLES, in_segments(TABLES), budget=budget)
+
+    def test_groups_with_more_values_than_the_budget(self):
+        rows = [(number % 3, number % 40 if number % 7 else None) for number in range(240)]
+        tables = {"u": (U, rows)}
+        for word in ("group", "sorted"):
+            for keys in ((), (col(0),)):
+                for budget in (4, 6, 50):
+                    counts = check_run(self, (word, keys, tuple(AGGS), OTHER), tables, in_segments(tables, 0, 50), budget=budget)
+                    self.assertGreater(counts[4], 0)
+
+    def test_equal_rows_beyond_the_budget(self):
+        left = [(number % 9, number % 2) for number in range(60)]
+        right = [(number % 12, number % 2) for number in range(90)] + [(3, 1)] * 10
+        tables = {"u": (U, left), "w": (("w", U[1], ()), right)}
+        segments = in_segments(tables, 0, 16)
+        for word in ("except", "meet"):
+            for one, other in (("u", "w"), ("w", "u"), ("w", "w")):
+                for budget in (4, 5, 9, 20):
+                    running = (word, ("scan", one, None), ("scan", other, None))
+                    check_run(self, running, tables, segments, budget=budget)
+                    check_run(self, (word, running, ("union", running, ("scan", one, LOW))), tables, segments, budget=budget)
+
+    def test_rows_that_are_equal_in_all_columns(self):
+        tables = {"u": (U, [(number % 2, None) for number in range(20)])}
+        funs = (fun("place", None, (), ((col(0), True, False),)), fun("place", None, (col(0),)), fun("place", None, (col(1),), (asc(0),)))
+        for budget in (4, 1000):
+            told = run(("window", funs, OTHER), in_segments(tables, 0, 3), budget=budget, workers=3, turns=(2, 0, 1))[0]
+            self.assertEqual(told, answer(window(funs, SCAN_U), tables))
+            # Whichever of them comes first, it does so for each function.
+            self.assertEqual(sorted(row[2] for row in told), list(range(1, 21)))
+            for row in told:
+                self.assertEqual(row[3], row[2] if row[0] == 1 else row[2] - 10)
+                self.assertEqual(row[4], row[2] + 10 if row[0] == 1 else row[2] - 10)
+
+
+class SettingsTest(unittest.TestCase):
+    def test_turns(self):
+        for turns, workers, wanted in (((), 3, [0, 0, 0, 0]), ((5,), 3, [2, 2, 2, 2]), ((1, -1, 10 ** 20), 3, [1, 2, 10 ** 20 % 3, 1]), ([4, 3], 4, [0, 3, 0, 3]), ((7, 8), 1, [0, 0, 0, 0])):
+            course = Course({}, 4, 1, workers, turns)
+            self.assertEqual([course.next_worker() for _ in range(4)], wanted)
+
+    def test_no_more_rows_than_a_batch_are_handed_on_at_once(self):
+        class Watch:
+            def __init__(self):
+                self.sizes = []
+
+            def receive(self, rows, number):
+                self.sizes.append(len(rows))
+
+        for running in (SCAN, ("where", TRUE, OTHER), ("select", (), OTHER), ("loop", "full", TRUE, SCAN, OTHER), ("top", (), None, 0, OTHER), ("distinct", OTHER), ("group", (col(0),), (), OTHER),
+                        ("union", SCAN, SCAN), ("rows", ("int",), ((1,),) * 40), ("except", OTHER, ("scan", "u", FALSE)), ("window", (), OTHER), by_keys("hash", "left", (col(0),), (col(0),), eq(col(0), col(2)))):
+            for batch in (1, 3, 64):
+                watch = Watch()
+                Host(Course(in_segments(TABLES), 4, batch, 1, ())).operator_of(running).go([], watch, 0)
+                self.assertLessEqual(max(watch.sizes), batch)
+                if batch == 1:
+                    self.assertEqual(len(watch.sizes), len(answer(plan_of(running), TABLES)))
+
+
 class CountsTest(unittest.TestCase):
     def test_segments_are_left_out_by_their_bounds(self):
         rows = [(number, None, None) for number in range(40)]
@@ -213,6 +290,18 @@ class CountsTest(unittest.TestCase):
             counts = check_run(self, ("scan", "t", cond), {"t": (T, rows)}, segments)
             self.assertEqual(counts[1], 0)
             self.assertEqual(counts[0] % 4, 0)
+
+    def test_conditions_of_other_shapes(self):
+        rows = [(number, "n" + str(number), number % 2 == 0) for number in range(40)]
+        tables = {"t": (T, rows)}
+        segments = {"t": (T, segmented(T, rows, 0, 10))}
+        for cond in (eq(num(3), col(0)), eq(op("neg", col(0)), num(-3)), eq(col(0), col(0)), eq(col(0), op("neg", num(-3))), op("lt", num(35), col(0)), op("lt", op("abs", col(0)), num(3)),
+                     neg(op("lt", col(0), num(35))), op("like", col(1), text("n3?")), op("same", col(0), num(3)), both(col(2), eq(col(0), num(3))), col(2), op("isnull", col(0)),
+                     op("ge", op("nullif", col(0), num(3)), num(30)), ("case", ((eq(col(0), num(3)), TRUE),), FALSE), op("eq", col(2), FALSE), op("ge", col(1), text("n38")), conj(col(2), eq(col(0), num(4))),
+                     conj(conj(op("gt", col(0), num(12)), TRUE), op("lt", col(0), num(15))), both(op("lt", col(0), num(2)), op("gt", col(0), num(38))), conj(eq(num(4), col(0)), col(2)), TRUE, FALSE):
+            with self.subTest(cond):
+                check_run(self, ("scan", "t", cond), tables, segments)
+                self.assertEqual(run(("scan", "t", cond), segments)[0], run(("where", cond, SCAN), segments)[0])
 
     def test_a_scan_runs_to_its_end(self):
         segments = in_segments(TABLES, 0, 4)
