@@ -79,7 +79,8 @@ class GroupKeeper(Keeper):
             by_key[()] = {}
         for row, many in changes[0].items():
             key = tuple([work(row, ()) for work in self.key_works])
-            by_key.setdefault(key, {})[row] = many
+            rows = by_key.setdefault(key, {})
+            rows[row] = many
         change = {}
         for key, rows in by_key.items():
             self.group_changed(key, rows, change)

@@ -2,6 +2,7 @@
 
 import ast
 import builtins
+import functools
 import io
 import keyword
 import pathlib
@@ -331,10 +332,14 @@ def module_tables(tree):
         if isinstance(node, ast.Assign) and isinstance(node.value, (ast.List, ast.Dict)):
             found.add(node.targets[0].id)
         if isinstance(node, ast.ImportFrom) and (node.module or "").startswith("peristyle."):
-            path = PACKAGE.parent / (node.module.replace(".", "/") + ".py")
-            told = module_tables(ast.parse(path.read_text())) if path.exists() else set()
+            told = file_tables(PACKAGE.parent / (node.module.replace(".", "/") + ".py"))
             found |= told & {alias.name for alias in node.names}
     return found
+
+
+@functools.cache
+def file_tables(path):
+    return module_tables(ast.parse(path.read_text())) if path.exists() else set()
 
 
 def check_tables(file):
@@ -546,6 +551,18 @@ def told(box, at=0):
             with self.subTest(text):
                 found = [line for line in mistakes("good.py", text) if "L23" in line or "L22" in line]
                 self.assertEqual(found, [])
+
+    def test_bad_classes_and_calls(self):
+        for text in ("class A:\n    def f(self):\n        self.f = 1", "def f(x):\n    return x.nowhere", "def f(x):\n    return x.nowhere()",
+                     "class A:\n    def f(self):\n        return 1\n\n\nclass B(A):\n    def g(self):\n        self.f = 1"):
+            self.assertNotEqual(check_classes({"a.py": ast.parse(text)}), [], text)
+        for text in ("def f(a, b=1):\n    return f()", "def f(a):\n    return f(a, 1)", "def f(a):\n    return f(b=a)", "def f(*, a):\n    return f(1)",
+                     "class A:\n    def __init__(self, a):\n        self.a = a\n\n\ndef f():\n    return A()", "class A:\n    pass\n\n\ndef f():\n    return A(1)"):
+            self.assertNotEqual(check_arguments({"a.py": ast.parse(text)}), [], text)
+        for text in ("from peristyle.value import order", "def _f():\n    return 1", "_X = 1"):
+            self.assertNotEqual(unused_names(File("a.py", text)), [], text)
+        trees = {"good.py": ast.parse(self.GOOD)}
+        self.assertEqual(check_classes(trees) + check_arguments(trees) + unused_names(File("good.py", self.GOOD)), [])
 
     def test_bad_code(self):
         for rule, texts in self.BAD.items():
