@@ -35,6 +35,17 @@ def _told(name, values):
     return all(values) if name == "every" else any(values)
 
 
+def told_of(name, many, total, best):
+    """The answer of an agg for so many values with this sum, of which this one is the best."""
+    if name in ("rows", "count"):
+        return many
+    if many == 0:
+        return None
+    if name == "sum":
+        return sized(total)
+    return total // many if name == "avg" else best
+
+
 def counts_each_once(name, distinct):
     """Tell whether it matters for an agg that of equal values just one counts."""
     return distinct and name in ("count", "sum", "avg")
@@ -74,10 +85,4 @@ class Tally:
         """The answer of the agg."""
         if self.fault is not None:
             return self.fault
-        if self.name in ("rows", "count"):
-            return self.many
-        if self.many == 0:
-            return None
-        if self.name == "sum":
-            return sized(self.total)
-        return self.total // self.many if self.name == "avg" else self.best
+        return told_of(self.name, self.many, self.total, self.best)

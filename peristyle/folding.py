@@ -1,11 +1,8 @@
 """Simpler expressions ([8.7])."""
 
 from peristyle.operators import kind_of, worked
-from peristyle.shape import exprs_of, plans_of, rebuilt
+from peristyle.shape import FALSE, TRUE, exprs_of, plans_of, rebuilt
 from peristyle.value import is_fault
-
-TRUE = ("const", "bool", True)
-FALSE = ("const", "bool", False)
 
 
 def folded(expr):

@@ -1,6 +1,6 @@
 """What a view keeps for groups ([11.2])."""
 
-from peristyle.aggs import counts_each_once, sized
+from peristyle.aggs import counts_each_once, told_of
 from peristyle.keepers import Keeper, add_to
 
 
@@ -50,13 +50,7 @@ class Worths:
 
     def told(self):
         """The answer of the agg."""
-        if self.name in ("rows", "count"):
-            return self.many
-        if self.many == 0:
-            return None
-        if self.name == "sum":
-            return sized(self.total)
-        return self.total // self.many if self.name == "avg" else self.best
+        return told_of(self.name, self.many, self.total, self.best)
 
 
 class GroupKeeper(Keeper):

@@ -2,10 +2,8 @@
 
 from peristyle.facts import known
 from peristyle.joinrules import shifted, steady
-from peristyle.shape import exprs_of, leaves, plans_of, rebuilt
+from peristyle.shape import TRUE, exprs_of, has_plans, leaves, rebuilt
 from peristyle.sight import are_safe
-
-TRUE = ("const", "bool", True)
 
 
 def exists(sight):
@@ -94,21 +92,17 @@ def _taken_apart(query):
 
 def _is_plain(cond):
     """Tell whether a condition has no plans in it, and outers of the first level alone."""
-    return not _has_plans(cond) and all([leaf[0] == "col" or leaf[1] == 1 for leaf, _ in leaves(cond, 0)])
+    return not has_plans(cond) and all([leaf[0] == "col" or leaf[1] == 1 for leaf, _ in leaves(cond, 0)])
 
 
 def _is_alone(expr):
     """Tell whether an expression has neither plans nor outers in it."""
-    return not _has_plans(expr) and all([leaf[0] == "col" for leaf, _ in leaves(expr, 0)])
+    return not has_plans(expr) and all([leaf[0] == "col" for leaf, _ in leaves(expr, 0)])
 
 
 def _is_closed(plan):
     """Tell whether a plan has no outer at all in it."""
     return all([leaf[0] == "col" for leaf, _ in leaves(plan, 0)])
-
-
-def _has_plans(expr):
-    return len(plans_of(expr)) > 0 or any([_has_plans(part) for part in exprs_of(expr)])
 
 
 def _for_both(cond, many):

@@ -3,9 +3,8 @@
 from peristyle.facts import safe
 from peristyle.joinrules import pair_faults, shifted
 from peristyle.plan import joined, parts, used
+from peristyle.shape import TRUE
 from peristyle.sight import sight_of, with_inputs
-
-TRUE = ("const", "bool", True)
 
 
 def usual(plan, tables):

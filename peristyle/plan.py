@@ -2,7 +2,7 @@
 
 from peristyle.limits import check_limits
 from peristyle.plancheck import PlanCheck
-from peristyle.shape import exprs_of, leaves, plans_of, put_in_node
+from peristyle.shape import TRUE, exprs_of, leaves, plans_of, put_in_node
 from peristyle.survey import survey
 
 
@@ -67,7 +67,7 @@ def parts(cond):
 def joined(conds):
     """The "and" of conditions, from the left."""
     if not conds:
-        return ("const", "bool", True)
+        return TRUE
     told = conds[0]
     for cond in conds[1:]:
         told = ("op", "and", (told, cond))

@@ -4,6 +4,9 @@ PLAN_WORDS = ("scan", "rows", "where", "select", "join", "group", "distinct", "u
               "top")
 EXPR_WORDS = ("col", "outer", "const", "op", "case", "scalar", "exists", "in")
 
+TRUE = ("const", "bool", True)
+FALSE = ("const", "bool", False)
+
 # How many plans stand at the end of the tuple of a plan or an expression.
 PLANS_AT_END = {
     "where": 1, "select": 1, "join": 2, "group": 1, "distinct": 1, "union": 2, "except": 2, "meet": 2,
@@ -47,6 +50,11 @@ def exprs_of(node):
 def _fun_exprs(fun):
     _, arg, partition, order, _ = fun
     return ([] if arg is None else [arg]) + list(partition) + [item[0] for item in order]
+
+
+def has_plans(expr):
+    """Tell whether an expression has plans in it."""
+    return len(plans_of(expr)) > 0 or any([has_plans(part) for part in exprs_of(expr)])
 
 
 class Supply:

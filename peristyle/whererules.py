@@ -3,9 +3,8 @@
 from peristyle.folding import first_folded, folded
 from peristyle.meaning import has_order
 from peristyle.plan import is_and, put_in
+from peristyle.shape import TRUE
 from peristyle.sight import are_from, columns
-
-TRUE = ("const", "bool", True)
 
 
 def split(sight):

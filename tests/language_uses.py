@@ -74,7 +74,7 @@ def stands_well(node, parent):
     if is_iterated(node, parent) or is_first_of(node, parent, TAKERS) or (is_join(parent) and parent.args[0] is node):
         return True
     if is_call_of(parent, ("min", "max")) and parent.args == [node]:
-        return True
+        return all(keyword.arg == "default" for keyword in parent.keywords)
     if is_call_of(parent, PRODUCTS) and node in parent.args:
         return True
     if name in ("range", "view") and is_first_of(node, parent, ("len",)):
