@@ -1,14 +1,14 @@
 """What is known of a plan, whatever its tables have (chapter 7)."""
 
 from peristyle.calls import NUMBERINGS
-from peristyle.keyfacts import join_keys, select_keys, without_twins
+from peristyle.keyfacts import MOST_JOINED, join_keys, select_keys, without_twins
 from peristyle.operators import is_strict, may_fault
 from peristyle.shape import plans_of
 
 
 def facts(plan, schemas):
     """Which columns may be null, which may be a fault, whether the plan may fail, and its keys."""
-    told = known(plan, {schema[0]: schema for schema in schemas})
+    told = _known_in_full(plan, {schema[0]: schema for schema in schemas})
     return tuple(told.nulls), tuple(told.faults), told.fails, list(told.unique)
 
 
@@ -38,13 +38,24 @@ def _never(many):
     return [False] * many
 
 
+def _known_in_full(plan, tables):
+    """What is known of a right plan, with all keys of joins."""
+    inputs = [_known_in_full(below, tables) for below in plans_of(plan)]
+    return _join(plan, inputs, tables, None) if plan[0] == "join" else known_over(plan, inputs, tables)
+
+
 def known(plan, tables):
     """What is known of a right plan; tables is a dict from names to schemas."""
     return known_over(plan, [known(below, tables) for below in plans_of(plan)], tables)
 
 
 def known_over(plan, inputs, tables):
-    """The same, if it is known already what its inputs are like."""
+    """The same, if it is known already what its inputs are like.
+
+    Of very many keys of joins only those are told in which no other one is; no more is needed of them.
+    """
+    if plan[0] == "join":
+        return _join(plan, inputs, tables, MOST_JOINED)
     tell = TELLERS[plan[0]]
     return tell(plan, inputs, tables)
 
@@ -73,11 +84,11 @@ def _select(plan, inputs, tables):
     return Known(nulls, faults, inner.fails, select_keys(plan[1], inner.unique))
 
 
-def _join(plan, inputs, tables):
+def _join(plan, inputs, tables, most_keys):
     _, kind, cond, _, _ = plan
     left, right = inputs
     fails = left.fails or right.fails or may_be_fault(cond, left.faults + right.faults, tables)
-    told = join_keys(kind, cond, left.unique, right.unique, len(left.nulls))
+    told = join_keys(kind, cond, left.unique, right.unique, len(left.nulls), most_keys)
     if kind in ("semi", "anti"):
         return Known(left.nulls, left.faults, fails, told)
     nulls = left.nulls + right.nulls
@@ -192,6 +203,6 @@ def _may_operator_be_null(expr, nulls):
 
 
 TELLERS = {
-    "scan": _scan, "rows": _rows, "where": _where, "select": _select, "join": _join, "group": _group,
+    "scan": _scan, "rows": _rows, "where": _where, "select": _select, "group": _group,
     "distinct": _distinct, "union": _union, "except": _divided, "meet": _divided, "window": _window, "top": _top,
 }

@@ -2,7 +2,7 @@
 
 from peristyle.plan import parts
 
-# The keys of many joined sides are far too many to tell all of them.
+# The keys of many joined sides are far too many to go on with all of them.
 MOST_JOINED = 500
 
 
@@ -21,8 +21,11 @@ def select_keys(exprs, inner):
     return without_twins(found)
 
 
-def join_keys(kind, cond, left, right, many):
-    """The keys of a join; left and right are those of its inputs, many the number of columns of left."""
+def join_keys(kind, cond, left, right, many, most):
+    """The keys of a join; left and right are those of its inputs, many the number of columns of left.
+
+    If the keys of both sides can be joined in more than most ways, only the least ones are told; None: in any case all.
+    """
     if kind in ("semi", "anti"):
         return list(left)
     if kind not in ("inner", "left"):
@@ -35,16 +38,18 @@ def join_keys(kind, cond, left, right, many):
         alone.extend(moved_right)
     if has_key(moved_right, [pair[1] for pair in pairs]):
         alone.extend(left)
-    if len(left) * len(right) <= MOST_JOINED:
+    if most is None or len(left) * len(right) <= most:
         found = [told + other for told in left for other in moved_right]
         return without_twins(found + alone)
     # Each joined key has one of those in it that hold alone.
-    return without_twins(alone) or [told + other for told in _least_keys(left) for other in _least_keys(moved_right)]
+    if alone:
+        return without_twins(alone)
+    return [told + other for told in _least_keys(left, most) for other in _least_keys(moved_right, most)]
 
 
-def _least_keys(group_keys):
-    """The keys that have no other one in them; a list of very many is made of such keys already."""
-    if len(group_keys) > MOST_JOINED:
+def _least_keys(group_keys, most):
+    """The keys that have no other one in them; a list of more than most is made of such keys already."""
+    if len(group_keys) > most:
         return group_keys
     least = []
     for told in sorted(group_keys, key=len):
